@@ -1,0 +1,1 @@
+"""Framemoves: running frames moved from one version of code to another."""
