@@ -1,0 +1,62 @@
+"""The names, arguments and places of definition that the interface lists."""
+
+import ast
+import importlib
+import inspect
+import pathlib
+import unittest
+
+FOLDER = pathlib.Path(__file__).resolve().parent.parent / "framemoves"
+
+FUNCTIONS = {
+    "kinds": ["is_integer(thing)", "is_name(thing)", "is_outcome(thing)", "is_term(thing)", "are_values(many, thing)"],
+    "terms": ["put(term, values)", "size(terms)", "unknowns(terms)", "numbered(terms)", "built(term, values, keep)"],
+    "runs": ["answered(code, frame, outcome, fresh)", "frame_after(code, outcomes)", "onward(code, frame)",
+             "head(code, frame)", "seen(code, outcomes)", "is_run(code, thing)"],
+    "roads": ["road_frame(code, road, *, most=200)", "is_road(code, thing)"],
+}
+
+CLASSES = {
+    ("patterns", "Pattern(terms)"): ["terms", "__or__", "__contains__", "__eq__", "__len__", "__repr__"],
+    ("solving", "Equations(many, pairs)"): ["width", "rows(self)", "solved_for(self, values)", "within(self, other)",
+                                            "__and__", "__contains__", "__eq__", "__len__", "__repr__"],
+    ("worlds", "World(acts)"): ["acts(self)", "outcomes(self, act)", "arguments(self, act)",
+                                "brings(self, act, outcome)", "__eq__"],
+    ("codes", "Code(world, variables, given, statements)"): [
+        "world", "variables", "given", "__len__", "__eq__", "statement(self, place)", "statements(self)", "first(self)",
+        "showing(self, place)"],
+}
+
+
+def defined(module):
+    """The names that a file defines by def or class at module level."""
+    tree = ast.parse((FOLDER / (module + ".py")).read_text())
+    return {node.name for node in tree.body if isinstance(node, (ast.FunctionDef, ast.ClassDef))}
+
+
+class InterfaceTest(unittest.TestCase):
+    def test_functions(self):
+        for module, signatures in FUNCTIONS.items():
+            for signature in signatures:
+                name = signature.split("(")[0]
+                function = getattr(importlib.import_module("framemoves." + module), name)
+                self.assertEqual(name + str(inspect.signature(function)), signature)
+                self.assertIn(name, defined(module))
+
+    def test_classes(self):
+        for (module, signature), methods in CLASSES.items():
+            name = signature.split("(")[0]
+            kind = getattr(importlib.import_module("framemoves." + module), name)
+            self.assertEqual(name + str(inspect.signature(kind)), signature)
+            self.assertIn(name, defined(module))
+            for method in methods:
+                short = method.split("(")[0]
+                self.assertIn(short, vars(kind), name)
+                if "(" in method:
+                    self.assertEqual(short + str(inspect.signature(vars(kind)[short])), method)
+                elif not short.startswith("_"):
+                    self.assertIsInstance(vars(kind)[short], property)
+
+
+if __name__ == "__main__":
+    unittest.main()
