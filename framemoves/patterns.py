@@ -70,8 +70,6 @@ class Pattern:
 
     def __or__(self, other):
         """The least pattern of which all instances of both are instances."""
-        if not isinstance(other, Pattern):
-            return NotImplemented
         if len(self._terms) != len(other._terms):
             raise Unlike()
         return Pattern(least_terms(self._terms, other._terms))

@@ -69,8 +69,6 @@ class Equations:
 
     def __and__(self, other):
         """The equations that those terms satisfy that satisfy both."""
-        if not isinstance(other, Equations):
-            return NotImplemented
         if self._many != other._many:
             raise Unlike()
         found = solved_together(self._solved, other._solved)

@@ -86,8 +86,8 @@ class StatementsTest(unittest.TestCase):
     def test_no_statements(self):
         self.bad(*any_values())
         self.bad(("go", "done", ()), ("", "done", ()), ("ends", "done", (0,)), (Pleasing(), (), 0),
-                 (Pleasing(), "done", ()),
-                 (Pleasing(), "ask", (0,), WAYS), ("ask", Pleasing(), (0,), WAYS), ("end", Pleasing(), ()),
+                 (Pleasing(), "done", ()), (Pleasing(), "ask", (0,), WAYS), ("ask", Pleasing(), (0,), WAYS),
+                 ("end", Pleasing(), ()),
                  ("set", ((Pleasing(), 0),), 0), ("set", ((0, Pleasing()),), 0), ("set", (), Pleasing()),
                  ("ask", "ask", (0,), ((Pleasing(), (2,), 0),) + WAYS[:2]))
         self.bad((), [], ("set",), ("ask",), ("end",), ("go", (), 0), ("Set", (), 0), list(SET), list(ASK), list(END),

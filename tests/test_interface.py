@@ -1,6 +1,7 @@
 """The names, arguments and places of definition that the interface lists."""
 
 import ast
+import doctest
 import importlib
 import inspect
 import pathlib
@@ -56,6 +57,11 @@ class InterfaceTest(unittest.TestCase):
                     self.assertEqual(short + str(inspect.signature(vars(kind)[short])), method)
                 elif not short.startswith("_"):
                     self.assertIsInstance(vars(kind)[short], property)
+
+    def test_readme(self):
+        failed, tried = doctest.testfile(str(FOLDER.parent / "README.md"), module_relative=False)
+        self.assertEqual(failed, 0)
+        self.assertGreater(tried, 0)
 
 
 if __name__ == "__main__":

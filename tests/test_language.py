@@ -23,7 +23,7 @@ NODES = {"Module", "Expr", "Constant", "ImportFrom", "alias", "FunctionDef", "Cl
          "In", "NotIn", "IfExp", "JoinedStr", "FormattedValue", "Lambda"}
 
 BUILTINS = {"len", "range", "enumerate", "zip", "min", "max", "sum", "abs", "sorted", "reversed", "int", "str", "bool",
-            "list", "tuple", "dict", "set", "isinstance", "repr", "any", "all", "ValueError", "NotImplemented",
+            "list", "tuple", "dict", "set", "isinstance", "repr", "any", "all", "ValueError",
             "property"}
 
 METHODS = set("""append clear copy count endswith extend find get index insert isalnum isalpha isdigit islower isspace

@@ -4,7 +4,7 @@ import unittest.mock
 
 from framemoves.errors import Unlike, Wrong
 from framemoves.patterns import Pattern
-from support import any_values, full, in_lists, nested, outcome_of, plain_put, random_term, seeded, unchanged
+from support import any_values, full, in_lists, nested, plain_put, random_term, seeded, unchanged
 
 FAR = 10 ** 39 + 7
 SMALL = [0, 1, ("c",), ("f", 0), ("f", 1), ("f", ("c",)), ("g", 0, 1), ("g", 1, 1), ("f", 0, 0)]
@@ -174,11 +174,6 @@ class LeastTest(unittest.TestCase):
         one, other = Pattern([("f", 0), 0]), Pattern([("f", ("c",)), 1])
         self.assertEqual([one | other, one | other], [Pattern([("f", 0), 1])] * 2)
         self.assertEqual([one.terms, other.terms], [(("f", 0), 0), (("f", ("c",)), 0)])
-
-    def test_with_something_else(self):
-        with self.assertRaises(TypeError):
-            Pattern([0]) | (0,)
-        self.assertEqual(outcome_of(Pattern, None), (Wrong, {"place": 0}))
 
 
 def range_terms(many, name):

@@ -253,8 +253,6 @@ class BothTest(unittest.TestCase):
             one & Equations(3, [(0, ("d",))])
         with self.assertRaises(Unlike):
             Equations(0, []) & Equations(1, [])
-        with self.assertRaises(TypeError):
-            one & [(0, ("c",))]
 
     def test_as_told_a_second_time(self):
         rng = seeded(9)
