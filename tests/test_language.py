@@ -225,7 +225,7 @@ class NamesTest(unittest.TestCase):
             functions = [node.name for node in tree.body if isinstance(node, (ast.FunctionDef, ast.ClassDef))]
             for name in given + functions:
                 self.assertTrue(re.fullmatch(r"_|_?[A-Za-z][A-Za-z0-9_]*", name), (path, name))
-                self.assertNotIn(name, set(vars(builtins)) | NEVER_NAMES, path)
+                self.assertNotIn(name, set(dir(builtins)) - {"_"} | NEVER_NAMES, path)
             self.assertFalse(outer & set(given), path)
             for node in ast.walk(tree):
                 if isinstance(node, ast.Name) and isinstance(node.ctx, ast.Load):
