@@ -2,7 +2,7 @@
 
 from framemoves.errors import BadPlace, NoPlace, Wrong
 from framemoves.kinds import is_below
-from framemoves.statements import in_order, is_statement
+from framemoves.statements import in_order, is_statement, plan_of
 from framemoves.worlds import World
 
 MOST_VARIABLES = 24
@@ -28,6 +28,7 @@ class Code:
         self._variables = variables
         self._given = given
         self._statements = [in_order(statement) for statement in statements]
+        self._plans = tuple([plan_of(statement) for statement in self._statements])
 
     @property
     def world(self):
@@ -43,6 +44,11 @@ class Code:
     def given(self):
         """The number of the given variables, which are the first ones."""
         return self._given
+
+    @property
+    def plans(self):
+        """The tuple of the plans of the statements of all places."""
+        return self._plans
 
     def statement(self, place):
         """The statement of a place."""

@@ -34,6 +34,12 @@ def shared(terms):
     return list(numbers), waiting[::-1]
 
 
+def laid(terms):
+    """The tuple of the nodes of terms, and the tuple of the numbers of these terms."""
+    nodes, tops = shared(terms)
+    return (tuple(nodes), tuple(tops))
+
+
 def filled(nodes, values):
     """The list of the terms of the nodes, each unknown in them replaced by its value."""
     made = []
@@ -53,6 +59,20 @@ def united(nodes, others):
         key = node[:1] + tuple([moved[part] for part in node[1:]])
         moved.append(numbers.setdefault(key, len(numbers)))
     return list(numbers), moved
+
+
+def laid_behind(first, second):
+    """What laid tells of the terms of second if the terms of first are put in for their unknowns."""
+    nodes, tops = first
+    numbers = {node: number for number, node in enumerate(nodes)}
+    moved = []
+    for node in second[0]:
+        if isinstance(node[0], str):
+            key = node[:1] + tuple([moved[part] for part in node[1:]])
+            moved.append(numbers.setdefault(key, len(numbers)))
+        else:
+            moved.append(tops[node[0]])
+    return (tuple(numbers), tuple([moved[top] for top in second[1]]))
 
 
 def fits(pairs, nodes, known):

@@ -94,3 +94,11 @@ class Equations:
 
     def __repr__(self):
         return f"Equations({self._many}, {self.rows()!r})"
+
+
+def with_rows(many, rows):
+    """The Equations over so many unknowns whose rows are these."""
+    made = Equations(many, [])
+    nodes, tops = shared([term for _, term in rows])
+    made._solved = (nodes, [(row[0], top) for row, top in zip(rows, tops)])
+    return made

@@ -1,6 +1,7 @@
-"""Statements of a code: which tuples they are, and the order in which they are kept."""
+"""Statements of a code: which tuples they are, the order in which they are kept, and their plans."""
 
 from framemoves.kinds import are_values, is_below, is_name
+from framemoves.nodes import laid
 from framemoves.terms import unknowns
 
 
@@ -81,3 +82,14 @@ def in_order(statement):
         ways = sorted(statement[3], key=lambda way: way[0])
         return ("ask", statement[1], statement[2], tuple(ways))
     return statement
+
+
+def plan_of(statement):
+    """The statement with its terms laid out once, so that values can be put into them often.
+
+    It is ("set", variables, laid, to), ("ask", act, laid, ways) or ("end", word, laid).
+    """
+    if statement[0] == "set":
+        changes = statement[1]
+        return ("set", tuple([change[0] for change in changes]), laid([change[1] for change in changes]), statement[2])
+    return statement[:2] + (laid(statement[2]),) + statement[3:]

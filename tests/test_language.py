@@ -19,12 +19,15 @@ NODES = {"Module", "Expr", "Constant", "ImportFrom", "alias", "FunctionDef", "Cl
          "Assign", "AugAssign", "Name", "Load", "Store", "Return", "Raise", "If", "For", "While", "Break",
          "Continue", "Pass", "Try", "ExceptHandler", "Call", "keyword", "Attribute", "Subscript", "Slice", "Tuple",
          "List", "Dict", "ListComp", "DictComp", "SetComp", "comprehension", "BoolOp", "And", "Or", "UnaryOp", "Not",
-         "USub", "BinOp", "Add", "Sub", "Mult", "Compare", "Eq", "NotEq", "Lt", "LtE", "Gt", "GtE", "Is", "IsNot",
+         "USub", "BinOp", "Add", "Sub", "Mult", "Mod", "BitAnd", "BitOr", "LShift", "RShift", "Compare", "Eq", "NotEq", "Lt", "LtE", "Gt", "GtE", "Is", "IsNot",
          "In", "NotIn", "IfExp", "JoinedStr", "FormattedValue", "Lambda"}
 
 BUILTINS = {"len", "range", "enumerate", "zip", "min", "max", "sum", "abs", "sorted", "reversed", "int", "str", "bool",
             "list", "tuple", "dict", "set", "isinstance", "repr", "any", "all", "ValueError",
-            "property"}
+            "property", "staticmethod"}
+
+# The classes whose objects change behind their making. Objects of the interface are of none of these.
+CHANGING = {"Table", "Looks", "Rounds", "Trail", "Walk"}
 
 METHODS = set("""append clear copy count endswith extend find get index insert isalnum isalpha isdigit islower isspace
 isupper items join keys ljust lower lstrip partition pop remove replace reverse rfind rjust rpartition rsplit rstrip
@@ -185,33 +188,62 @@ class StatementsTest(unittest.TestCase):
             self.assertEqual(node.decorator_list, [])
             for part in node.body:
                 if isinstance(part, ast.FunctionDef):
-                    self.assertLessEqual([name.id for name in part.decorator_list], ["property"], (path, part.name))
+                    decorators = [name.id for name in part.decorator_list]
+                    self.assertIn(decorators, ([], ["property"], ["staticmethod"]), (path, part.name))
                     if part.name.startswith("__"):
                         self.assertIn(part.name, DUNDERS, path)
                 else:
                     self.assertIs(part, node.body[0], path)
+        methods = [part for _, kind in nodes_of(ast.ClassDef) for part in kind.body]
         for path, node in nodes_of(ast.FunctionDef):
-            if node not in [part for _, kind in nodes_of(ast.ClassDef) for part in kind.body]:
+            if node not in methods:
                 self.assertEqual((node.decorator_list, node.name.startswith("__")), ([], False), path)
+
+
+def methods_of(changing):
+    """The methods of the classes whose objects change, or of the other ones."""
+    return [part for _, kind in nodes_of(ast.ClassDef) if (kind.name in CHANGING) == changing
+            for part in kind.body if isinstance(part, ast.FunctionDef)]
+
+
+def root_of(node):
+    """The name at the beginning of an expression such as rows[0].table, or None."""
+    while isinstance(node, (ast.Attribute, ast.Subscript, ast.Call)):
+        node = node.func if isinstance(node, ast.Call) else node.value
+    return getattr(node, "id", None)
 
 
 class ChangesTest(unittest.TestCase):
     def test_no_function_changes_what_it_is_passed(self):
         changing = {"append", "clear", "extend", "insert", "pop", "remove", "reverse", "setdefault", "update"}
+        owners = methods_of(True) + [node for node in methods_of(False) if node.name == "__init__"]
         for path, node in nodes_of(ast.FunctionDef):
-            passed = {arg.arg for arg in node.args.args + node.args.kwonlyargs} - {"self"}
+            passed = {arg.arg for arg in node.args.args + node.args.kwonlyargs}
+            if node in owners:
+                passed.discard("self")
             for part in ast.walk(node):
                 if isinstance(part, (ast.Subscript, ast.Attribute)) and isinstance(part.ctx, ast.Store):
-                    self.assertNotIn(getattr(part.value, "id", None), passed, (path, part.lineno))
+                    self.assertNotIn(root_of(part), passed, (path, part.lineno))
                 if isinstance(part, ast.Call) and isinstance(part.func, ast.Attribute) and part.func.attr in changing:
-                    self.assertIsInstance(part.func.value, ast.Name, (path, part.lineno))
-                    self.assertNotIn(part.func.value.id, passed, (path, part.lineno))
+                    self.assertIsNotNone(root_of(part), (path, part.lineno))
+                    self.assertNotIn(root_of(part), passed, (path, part.lineno))
 
-    def test_objects_are_changed_only_as_they_are_made(self):
-        for path, node in nodes_of(ast.FunctionDef):
+    def test_operators_and_properties_change_nothing(self):
+        named = {}
+        for _, node in nodes_of(ast.FunctionDef):
+            named.setdefault(node.name, []).append(node)
+        ahead = [node for node in methods_of(False)
+                 if node.decorator_list or node.name.startswith("__") and node.name not in ("__init__", "__call__")]
+        met = []
+        while ahead:
+            node = ahead.pop()
+            met.append(node)
             for part in ast.walk(node):
-                if isinstance(part, ast.Attribute) and isinstance(part.ctx, ast.Store) and part.value.id == "self":
-                    self.assertEqual(node.name, "__init__", (path, part.lineno))
+                if isinstance(part, ast.Call):
+                    name = part.func.id if isinstance(part.func, ast.Name) else part.func.attr
+                    self.assertNotIn(name, CHANGING, node.name)
+                    ahead.extend(other for other in named.get(name, []) if other not in met)
+        self.assertFalse(set(met) & set(methods_of(True)))
 
 
 class NamesTest(unittest.TestCase):
@@ -243,7 +275,7 @@ class NamesTest(unittest.TestCase):
                 if isinstance(part, ast.FunctionDef):
                     (properties if part.decorator_list else methods).add(part.name)
         self.assertFalse(properties & methods)
-        self.assertFalse(stored & methods)
+        self.assertFalse(stored & (methods | properties))
         for name in stored | methods | properties:
             for kind in (str, int, list, dict, set, bytes, tuple):
                 self.assertFalse(hasattr(kind, name) and name not in DUNDERS, name)

@@ -1,0 +1,69 @@
+"""Terms of a Table made equal by terms for its first unknowns, the free ones; other unknowns are fixed things."""
+
+
+def leader(above, number):
+    """The number at the top of those that stand above a number."""
+    while number in above:
+        number = above[number]
+    return number
+
+
+def joined(table, free, pairs):
+    """A dict from numbers to those above them, which equal them if the pairs of numbers do; None if they cannot.
+
+    At the top stands what is no free unknown, if there is such a thing, otherwise the least free one.
+    """
+    above = {}
+    ahead = list(pairs)
+    while ahead:
+        one, other = ahead.pop()
+        one, other = leader(above, one), leader(above, other)
+        low, high = min(one, other), max(one, other)
+        if low < free <= high:
+            above[low] = high
+        elif low != high:
+            node, second = table.nodes[low], table.nodes[high]
+            if low >= free and (node[0] != second[0] or len(node) != len(second)):
+                return None
+            above[high] = low
+            ahead.extend(list(zip(node[1:], second[1:])))
+    return above
+
+
+def worths(table, free, above):
+    """A dict from the free unknowns below others to their terms without any of these unknowns, or None."""
+    lower = [number for number in above if number < free]
+    bound = sum([1 << number for number in lower])
+    made = {}
+    opened = {}
+    ahead = [leader(above, number) for number in lower]
+    while ahead:
+        number = ahead[-1]
+        if table.masks[number] & bound == 0:
+            made[number] = number
+        if number in made:
+            ahead.pop()
+            continue
+        node = table.nodes[number]
+        parts = [leader(above, part) for part in node[1:]]
+        missing = [part for part in parts if part not in made]
+        if missing and number in opened:
+            # It is met again on the way into it, so that it would be within itself.
+            return None
+        opened[number] = True
+        ahead.extend(missing)
+        if not missing:
+            made[number] = table.number_of(node[:1] + tuple([made[part] for part in parts]))
+    return {number: made[leader(above, number)] for number in lower}
+
+
+def solved_rows(table, free, pairs):
+    """The ascending tuple of rows (free unknown, number) that say what the pairs of numbers say, or None.
+
+    No free unknown that has a row stands in one, and no other marked unknown does.
+    """
+    above = joined(table, free, pairs)
+    made = None if above is None else worths(table, free, above)
+    if made is None or any([table.masks[number] >> free != 0 for number in made.values()]):
+        return None
+    return tuple(sorted(made.items()))
