@@ -5,7 +5,7 @@ import itertools
 from framemoves.codes import Code
 from framemoves.errors import Broken, TooMany
 from framemoves.patterns import Pattern
-from framemoves.terms import size
+from framemoves.terms import built, size
 from framemoves.worlds import World
 from support import plain_put, plain_solve, random_term
 
@@ -307,3 +307,89 @@ def histories_of(yard, length):
         found.extend(history for history, _ in following)
         level = following
     return found
+
+
+def follows_of(one, other):
+    """The ascending list of the pairs of places (0, 0) and those that follow equal acts, as [52] tells."""
+    found, ahead = [], [(0, 0)]
+    while ahead:
+        pair = ahead.pop()
+        places = [code.showing(place) for code, place in zip((one, other), pair)]
+        if pair in found or None in places:
+            found.extend([] if pair in found else [pair])
+            continue
+        found.append(pair)
+        first, second = one.statement(places[0]), other.statement(places[1])
+        if first[0] == second[0] == "ask" and first[1] == second[1]:
+            ahead.extend((way[2], more[2]) for way, more in zip(first[3], second[3]))
+    return sorted(found)
+
+
+def in_full(term, rows):
+    """The term in which unknowns of rows are replaced as long as there are any."""
+    if isinstance(term, tuple):
+        return term[:1] + tuple(in_full(part, rows) for part in term[1:])
+    return in_full(rows[term], rows) if term in rows else term
+
+
+def plain_are_rows(one, other, thing):
+    """Whether a list of tuples (place, place, pairs), which are as described, shows that first frames are alike."""
+    told = {(place, there): pairs for place, there, pairs in thing}
+    values = one.first()[1] + other.first()[1]
+    if len(told) < len(thing) or any(plain_solve(pairs) is None for pairs in told.values()):
+        return False
+    if any(plain_put(term, values) != plain_put(more, values) for term, more in told.get((0, 0), [(0, ("f", 0))])):
+        return False
+    for (place, there), pairs in told.items():
+        try:
+            rows = rows_between(one, place, other, there, told)
+        except KeyError:
+            return False
+        known = plain_solve(pairs)
+        if rows is None or any(in_full(term, known) != in_full(more, known) for term, more in rows):
+            return False
+    return True
+
+
+def other_rows(rng, rows, one, other):
+    """Rows with something changed: in another order, a pair out, a pair more, another pair, a tuple out, one more."""
+    rows = [(place, there, list(pairs)) for place, there, pairs in rows]
+    leaves = range(one.variables + other.variables)
+    how = rng.randrange(6)
+    pairs = rng.choice(rows)[2] if rows else []
+    if how == 0:
+        rng.shuffle(rows)
+    elif how == 1 and pairs:
+        pairs.pop(rng.randrange(len(pairs)))
+    elif how == 2:
+        pairs.append((random_term(rng, 1, leaves, NAMES), random_term(rng, 1, leaves, NAMES)))
+    elif how == 3 and pairs:
+        pairs.append((random_term(rng, 1, leaves, NAMES), pairs.pop(rng.randrange(len(pairs)))[1]))
+    elif how == 4 and rows:
+        rows.pop(rng.randrange(len(rows)))
+    elif how == 5:
+        rows.append((rng.randrange(len(one)), rng.randrange(len(other)), []))
+    return rows
+
+
+def satisfies(rows, values):
+    """Whether values satisfy solved rows, or None."""
+    return rows is not None and all(values[unknown] == plain_put(term, values) for unknown, term in rows)
+
+
+def least_pattern(rows):
+    """The least pattern of lists of values, or None of none."""
+    found = None
+    for values in rows:
+        found = Pattern(values) if found is None else found | Pattern(values)
+    return found
+
+
+def plain_terms(equations, values, keep):
+    """The terms of the recipe of [62] for values, or None; equations may be None."""
+    found = None if equations is None else equations.solved_for(values)
+    if found is None:
+        return None
+    told = dict(found)
+    terms = [built(told[at], values, keep) if at in told else ("nil",) for at in range(len(values), equations.width)]
+    return None if None in terms else terms

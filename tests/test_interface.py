@@ -15,6 +15,20 @@ FUNCTIONS = {
     "runs": ["answered(code, frame, outcome, fresh)", "frame_after(code, outcomes)", "onward(code, frame)",
              "head(code, frame)", "seen(code, outcomes)", "is_run(code, thing)"],
     "roads": ["road_frame(code, road, *, most=200)", "is_road(code, thing)"],
+    "facts": ["kept_roads(code, place, *, most=200)", "facts(code, *, most=200)", "fact(code, place, *, most=200)",
+              "are_facts(code, thing)", "shows_fact(code, place, thing, *, most=200)"],
+    "needs": ["needs(one, p, other, q, *, most=200)", "all_needs(one, other, *, most=200)",
+              "are_alike(one, frame, other, second, *, most=200)", "parting(one, frame, other, second, *, most=200)"],
+    "alike": ["alike(one, other, *, most=200)", "are_rows(one, other, thing)"],
+    "moves": ["is_right(one, p, other, q, recipe, *, most=200)", "wrong_road(one, p, other, q, recipe, *, most=200)",
+              "recipe_for(one, p, other, q, *, keep=None, most=200)",
+              "are_stuck(one, p, other, q, keep, thing, *, most=200)"],
+    "keeps": ["are_enough(one, pairs, keep, *, most=200)", "is_bar(one, pairs, thing, *, most=200)",
+              "is_cheapest(one, pairs, prices, thing, *, most=200)", "least_keeps(one, pairs, *, most=200)",
+              "least_bars(one, pairs, *, most=200)", "cheapest(one, pairs, prices, *, most=200)"],
+    "composing": ["parting_road(one, place, other, there, first, second, *, most=200)",
+                  "there_and_back(one, place, other, there, recipe, back, *, most=200)"],
+    "histories": ["frame_of(yard, history)", "is_history(yard, thing)", "shown(yard, history)"],
 }
 
 CLASSES = {
@@ -26,6 +40,10 @@ CLASSES = {
     ("codes", "Code(world, variables, given, statements)"): [
         "world", "variables", "given", "__len__", "__eq__", "statement(self, place)", "statements(self)", "first(self)",
         "showing(self, place)"],
+    ("recipes", "Recipe(variables, terms)"): ["variables", "terms", "__call__(self, values)", "__mul__", "__eq__",
+                                              "__len__", "__repr__"],
+    ("yards", "Yard(true, versions, moves, *, begins=(0,))"): ["true", "begins", "versions(self)", "moves(self)",
+                                                               "with_move(self, move)", "__eq__"],
 }
 
 
@@ -57,6 +75,11 @@ class InterfaceTest(unittest.TestCase):
                     self.assertEqual(short + str(inspect.signature(vars(kind)[short])), method)
                 elif not short.startswith("_"):
                     self.assertIsInstance(vars(kind)[short], property)
+
+    def test_static_methods(self):
+        from framemoves.recipes import Recipe
+        self.assertIsInstance(vars(Recipe)["keeping"], staticmethod)
+        self.assertEqual(str(inspect.signature(Recipe.keeping)), "(many)")
 
     def test_readme(self):
         failed, tried = doctest.testfile(str(FOLDER.parent / "README.md"), module_relative=False)
