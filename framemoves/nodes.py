@@ -61,6 +61,12 @@ def united(nodes, others):
     return list(numbers), moved
 
 
+def are_same(first, second):
+    """Whether what laid tells of two lists of terms is told of equal ones; there may be further nodes."""
+    moved = united(first[0], second[0])[1]
+    return first[1] == tuple([moved[top] for top in second[1]])
+
+
 def laid_behind(first, second):
     """What laid tells of the terms of second if the terms of first are put in for their unknowns."""
     nodes, tops = first

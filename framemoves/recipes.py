@@ -2,7 +2,7 @@
 
 from framemoves.errors import Unlike, Wrong
 from framemoves.kinds import are_terms, is_integer
-from framemoves.nodes import filled, laid, laid_behind, united
+from framemoves.nodes import are_same, filled, laid, laid_behind
 from framemoves.terms import unknowns
 
 
@@ -17,7 +17,7 @@ class Recipe:
         if not all([unknown < variables for unknown in unknowns(terms)]):
             raise Wrong(1)
         self._variables = variables
-        self._laid = laid(terms)
+        self._plan = laid(terms)
 
     @property
     def variables(self):
@@ -27,12 +27,12 @@ class Recipe:
     @property
     def plan(self):
         """The nodes of the terms, and the numbers of the terms among them."""
-        return self._laid
+        return self._plan
 
     @property
     def terms(self):
         """The tuple of the terms."""
-        nodes, tops = self._laid
+        nodes, tops = self._plan
         made = filled(nodes, {node[0]: node[0] for node in nodes if not isinstance(node[0], str)})
         return tuple([made[top] for top in tops])
 
@@ -43,26 +43,23 @@ class Recipe:
 
     def __call__(self, values):
         """The tuple of the values that are made of a tuple of values."""
-        nodes, tops = self._laid
+        nodes, tops = self._plan
         made = filled(nodes, values)
         return tuple([made[top] for top in tops])
 
     def __mul__(self, other):
         """The Recipe that makes what the other one makes of what this one makes."""
-        if other._variables != len(self._laid[1]):
+        if other._variables != len(self._plan[1]):
             raise Unlike()
         both = Recipe(self._variables, [])
-        both._laid = laid_behind(self._laid, other._laid)
+        both._plan = laid_behind(self._plan, other._plan)
         return both
 
     def __eq__(self, other):
-        if not isinstance(other, Recipe) or self._variables != other._variables:
-            return False
-        moved = united(self._laid[0], other._laid[0])[1]
-        return self._laid[1] == tuple([moved[top] for top in other._laid[1]])
+        return isinstance(other, Recipe) and self._variables == other._variables and are_same(self._plan, other._plan)
 
     def __len__(self):
-        return len(self._laid[1])
+        return len(self._plan[1])
 
     def __repr__(self):
         return f"Recipe({self._variables}, {self.terms!r})"

@@ -43,10 +43,8 @@ class Table:
     def taken(self, terms):
         """The list of the numbers of terms."""
         nodes, tops = shared(terms)
-        made = []
-        for node in nodes:
-            made.append(self.number_of(node[:1] + tuple([made[part] for part in node[1:]])))
-        return [made[top] for top in tops]
+        leaves = {node[0]: self.number_of(node) for node in nodes if not isinstance(node[0], str)}
+        return self.worked((nodes, tops), leaves)
 
     def worked(self, plan, values):
         """The list of the numbers of the terms of a plan (nodes, tops), the numbers in values put in for unknowns."""
@@ -59,17 +57,21 @@ class Table:
                 made.append(values[node[0]])
         return [made[top] for top in tops]
 
-    def told(self, numbers):
-        """The list of the terms with these numbers."""
+    def within(self, numbers, marked):
+        """The ascending list of the numbers of terms and of all in them, or of those in which marked unknowns are."""
         found = {}
         ahead = list(numbers)
         while ahead:
             number = ahead.pop()
-            if number not in found:
+            if number not in found and (not marked or self.masks[number] != 0):
                 found[number] = True
                 ahead.extend(self.nodes[number][1:])
+        return sorted(found)
+
+    def told(self, numbers):
+        """The list of the terms with these numbers."""
         made = {}
-        for number in sorted(found):
+        for number in self.within(numbers, False):
             node = self.nodes[number]
             if isinstance(node[0], str):
                 made[number] = node[:1] + tuple([made[part] for part in node[1:]])
@@ -79,15 +81,8 @@ class Table:
 
     def moved(self, numbers, values):
         """The list of the numbers of the terms in which each marked unknown is replaced by its value."""
-        found = {}
-        ahead = list(numbers)
-        while ahead:
-            number = ahead.pop()
-            if self.masks[number] != 0 and number not in found:
-                found[number] = True
-                ahead.extend(self.nodes[number][1:])
         made = {}
-        for number in sorted(found):
+        for number in self.within(numbers, True):
             node = self.nodes[number]
             if number < self._marked:
                 made[number] = values[number]

@@ -1,0 +1,73 @@
+"""That results are renamed as names are, if these are renamed one to one such that their order stays."""
+
+import unittest
+
+from framemoves.alike import alike
+from framemoves.codes import Code
+from framemoves.facts import facts, kept_roads
+from framemoves.histories import frame_of, shown
+from framemoves.keeps import cheapest
+from framemoves.moves import recipe_for, wrong_road
+from framemoves.needs import all_needs, parting
+from framemoves.patterns import Pattern
+from framemoves.recipes import Recipe
+from framemoves.solving import Equations
+from framemoves.worlds import World
+from framemoves.yards import Yard
+from plain import WORLDS, histories_of, random_code, varied
+from support import outcome_of, seeded
+
+# What the results themselves are told with, and the constant that first frames have, is renamed to itself.
+FIXED = ("nil", "set", "ask", "end", "silent", "alike", "parted", "move", "stuck", "may", "must", "")
+
+
+def renamed(thing):
+    """The thing with all names in it renamed; an a behind each of two names does not change their order."""
+    if isinstance(thing, str):
+        return thing if thing in FIXED else thing[:-1] + "a-" if thing.endswith("-") else thing + "a"
+    if isinstance(thing, (list, tuple)):
+        return type(thing)(renamed(item) for item in thing)
+    if isinstance(thing, World):
+        acts = [(act, thing.arguments(act), thing.outcomes(act)) for act in thing.acts()]
+        return World({renamed(act): (many, {renamed(outcome): thing.brings(act, outcome) for outcome in outcomes})
+                      for act, many, outcomes in acts})
+    if isinstance(thing, Code):
+        return Code(renamed(thing.world), thing.variables, thing.given, renamed(thing.statements()))
+    if isinstance(thing, Pattern):
+        return Pattern(renamed(thing.terms))
+    if isinstance(thing, Recipe):
+        return Recipe(thing.variables, renamed(thing.terms))
+    if isinstance(thing, Equations):
+        return Equations(thing.width, renamed(thing.rows()))
+    return thing
+
+
+class RenamedTest(unittest.TestCase):
+    def check(self, call, *things, **more):
+        told = outcome_of(call, *things, **more)
+        self.assertEqual(outcome_of(call, *[renamed(thing) for thing in things], **more), renamed(told))
+
+    def test_results_are_renamed(self):
+        rng = seeded(11)
+        for _ in range(80):
+            code = random_code(rng, rng.choice(WORLDS), 3, rng.randrange(4), rng.randrange(1, 5))
+            other = varied(rng, code)
+            place, there = rng.randrange(len(code)), rng.randrange(len(other))
+            self.check(facts, code)
+            self.check(kept_roads, code, place)
+            self.check(all_needs, code, other)
+            self.check(alike, code, other)
+            self.check(parting, code, code.first(), other, other.first())
+            self.check(wrong_road, code, place, other, there, Recipe(3, [0, ("f", 1), ("c",)]))
+            for keep in (None, [0, 1], [2]):
+                self.check(recipe_for, code, place, other, there, keep=keep)
+            self.check(cheapest, code, [(place, other, there), (place, code, place)], [2, 1, 3])
+            moves = [(0, place, 1, there, Recipe(3, [0, 2, ("g", 1, 0)]), "may")]
+            yard, second = Yard(code, [code, other], moves), Yard(renamed(code), [renamed(code), renamed(other)], renamed(moves))
+            for history in histories_of(yard, 4)[:20]:
+                self.assertEqual(frame_of(second, renamed(history)), renamed(frame_of(yard, history)))
+                self.assertEqual(shown(second, renamed(history)), renamed([tuple(row) for row in shown(yard, history)]))
+
+
+if __name__ == "__main__":
+    unittest.main()
