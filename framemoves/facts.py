@@ -71,8 +71,5 @@ def shows_fact(code, place, thing, *, most=200):
     """Whether any value is a list of different roads to a place whose values show its fact."""
     need_place(code, place)
     looks = looks_at(code, most)
-    known = pattern_at(looks, place)
     found = values_of_roads(looks.table, code, place, thing, most)
-    if known is None or not found:
-        return False
-    return Pattern(looks.table.told(looks.table.least_of(found))) == known
+    return bool(found) and Pattern(looks.table.told(looks.table.least_of(found))) == pattern_at(looks, place)

@@ -84,15 +84,11 @@ def cheapest(one, pairs, prices, *, most=200):
     return (price, keep, least_lists(many, enough))
 
 
-def is_bar_of(many, enough, thing):
-    """Whether any value is a bar, if these choices of so many variables are enough."""
-    choice = choice_of(many, thing)
-    return choice is not None and has(bars_against(many, enough), choice)
-
-
 def is_bar(one, pairs, thing, *, most=200):
     """Whether any value is a list of variables without which the others are not enough."""
-    return is_bar_of(one.variables, enough_choices(one, pairs, most), thing)
+    bars = bars_against(one.variables, enough_choices(one, pairs, most))
+    choice = choice_of(one.variables, thing)
+    return choice is not None and has(bars, choice)
 
 
 def are_cheapest(many, enough, prices, price, keep, bars):
@@ -100,10 +96,12 @@ def are_cheapest(many, enough, prices, price, keep, bars):
     choice = choice_of(many, keep)
     if choice is None or not has(enough, choice) or not is_integer(price) or price != price_of(prices, choice):
         return False
-    if not (isinstance(bars, list) and all([is_bar_of(many, enough, bar) for bar in bars])):
+    found = [choice_of(many, bar) for bar in bars] if isinstance(bars, list) else [None]
+    against = bars_against(many, enough)
+    if not all([bar is not None and has(against, bar) for bar in found]):
         return False
-    lists = [choice_of(many, bar) for bar in bars]
-    met = [choice for choice in range(1 << many) if all([choice & bar != 0 for bar in lists])]
+    different = sorted(set(found))
+    met = [choice for choice in range(1 << many) if all([choice & bar != 0 for bar in different])]
     return all([price_of(prices, choice) >= price for choice in met])
 
 

@@ -32,13 +32,12 @@ def are_without(table, equations, rows, keep):
 
 
 def first_without(table, equations, rows, kept, keep):
-    """The first index of kept roads such that no recipe does for rows and these roads up to the index."""
-    found = list(rows)
-    for at, (_, values) in enumerate(kept):
-        found = [table.least_of(found + [values])]
-        if are_without(table, equations, found, keep):
-            return at
-    return len(kept) - 1
+    """The first index of kept roads such that no recipe does for rows and the roads up to there."""
+    at = -1
+    while not are_without(table, equations, rows, keep):
+        at += 1
+        rows = [table.least_of(rows + [kept[at][1]])]
+    return at
 
 
 def needed_roads(table, equations, kept, keep):

@@ -68,6 +68,22 @@ class FactsTest(unittest.TestCase):
                 ("set", ((2, 0),), 3), ("end", "done", ())]
         self.assertEqual(fact(Code(WORLD, 3, 2, rows), 3), Pattern((0, 1, 0)))
 
+    def test_operations_with_other_numbers_of_parts(self):
+        rows = [("ask", "ask", (0,), (("no", (), 1), ("yes", (), 2))), ("set", ((0, ("f", 1)), (1, ("g", 1, ("c",)))), 3),
+                ("set", ((0, ("f", 1, 1)), (1, ("g", 1))), 3), ("end", "done", ())]
+        code = Code(World({"ask": (1, {"no": 0, "yes": 0})}), 2, 2, rows)
+        self.assertEqual([fact(code, 3), kept_roads(code, 3)], [Pattern((0, 1)), [(("no",), 1), (("yes",), 1)]])
+        self.assertIs(are_facts(code, [Pattern((0, 1))] * 3 + [Pattern((("f", 0), 1))]), False)
+        self.assertIs(are_facts(code, [Pattern((0, 1))] * 3 + [Pattern((0, ("g", 0)))]), False)
+
+    def test_brought_values_are_different_ones(self):
+        ways = (("u", (0, 1), 1),), (("u", (2, 3), 2),)
+        world = World({"get": (0, {"u": 2})})
+        code = Code(world, 4, 0, [("ask", "get", (), ways[0]), ("ask", "get", (), ways[1]), ("end", "done", ())])
+        self.assertEqual(fact(code, 2), Pattern((0, 1, 2, 3)))
+        code = Code(world, 4, 1, [("ask", "get", (), ways[1]), ("end", "done", ()), ("end", "done", ())])
+        self.assertEqual(fact(code, 2), Pattern((0, ("nil",), 1, 2)))
+
     def test_roads_in_their_order(self):
         rows = [("ask", "ask", (0,), (("yes", (0,), 1), ("no", (), 1))), ("set", ((0, ("c",)),), 2),
                 ("set", ((0, ("d",)),), 1)]
@@ -197,6 +213,10 @@ class AreFactsTest(unittest.TestCase):
         self.assertIs(are_facts(code, [Pattern((0, 1)), Pattern((0, 0))]), False)
         self.assertIs(are_facts(code, [Pattern((0, 1)), Pattern((0, ("c",)))]), False)
         self.assertIs(are_facts(code, [Pattern((0, 0)), Pattern((0, 1))]), False)
+        rows = [("ask", "get", (), (("one", (1,), 1), ("two", (1, 2), 1))), ("end", "done", ())]
+        code = Code(WORLDS[1], 3, 3, rows)
+        for pattern in [(0, 0, 1), (0, 1, 0), (0, 1, 1)]:
+            self.assertIs(are_facts(code, [Pattern((0, 1, 2)), Pattern(pattern)]), False)
 
     def test_any_value(self):
         told = facts(GROW)
@@ -245,6 +265,14 @@ class ShowsFactTest(unittest.TestCase):
             self.assertIs(shows_fact(turn, 0, [((), steps)]), True)
         self.assertIs(shows_fact(turn, 0, [((), 10000)]), False)
         self.assertIs(shows_fact(turn, 0, [((), steps) for steps in range(5000)]), True)
+
+    def test_where_long_roads_lead(self):
+        ring = Code(WORLD, 1, 1, [("set", (), 1), ("set", (), 2), ("set", (), 3), ("set", (), 1)])
+        for steps in list(range(12)) + [9997, 9998, 9999]:
+            there = steps if steps == 0 else 1 + (steps - 1) % 3
+            self.assertEqual(road_frame(ring, ((), steps)), (there, (0,)))
+            for place in range(4):
+                self.assertIs(shows_fact(ring, place, [((), steps)]), place == there)
 
     def test_each_choice_of_roads(self):
         kept = kept_roads(ROUND, 0) + [((), 7)]

@@ -108,6 +108,18 @@ class KeepsTest(unittest.TestCase):
                                     ([2, 1, 1, 3], 2, [1, 2]), ([3, 3, 3, 9], 6, [0, 1]), ([3, 3, 1, 4], 4, [1, 2])]:
             self.assertEqual(cheapest(one, [(1, SHOW, 0)], prices), (price, keep, [[0, 2, 3], [1, 3]]))
 
+    def test_values_within_kept_values_are_not_kept(self):
+        rows = [("ask", "go", (), (("a", (), 1), ("b", (), 2), ("c", (), 2)))]
+        rows += [("set", ((0, ("f", (word,))), (1, second)), 3) for word, second in [("c", ("c",)), ("d", ("c",))]]
+        one = Code(GO, 2, 2, rows + [("end", "out", (0,))])
+        last = Code(GO, 1, 1, [("end", "out", (("f", 0),))])
+        self.assertEqual([least_keeps(one, [(3, last, 0)]), least_bars(one, [(3, last, 0)])], [[], [[]]])
+        self.assertIs(are_enough(one, [(3, last, 0)], [0, 1]), False)
+        self.assertEqual(least_keeps(one, [(1, last, 0), (2, last, 0)]), [[]])
+        rows[2] = ("set", ((0, ("f", ("d",))), (1, ("d",))), 3)
+        one = Code(GO, 2, 2, rows + [("end", "out", (0,))])
+        self.assertEqual([least_keeps(one, [(3, last, 0)]), least_bars(one, [(3, last, 0)])], [[[1]], [[1]]])
+
     def test_as_told_a_second_time(self):
         rng = seeded(63)
         kinds = {}

@@ -91,6 +91,12 @@ class NeedsTest(unittest.TestCase):
         self.assertEqual(needs(one, 0, third, 0).rows(), [(2, 1)])
         self.assertEqual(parting(one, (0, (0, 1)), other, (0, (0, 1))), ["two"])
 
+    def test_operations_with_other_numbers_of_parts(self):
+        one, other = ends(("out", (("f", 0),)), ("out", (("f", 0, 1),))), ends(("out", (("f", 0, 1),)), ("out", (("f",),)))
+        self.assertEqual(all_needs(one, other), [[None, None], [Equations(4, [(2, 0), (3, 1)]), None]])
+        self.assertIs(are_alike(one, (1, (0, 1)), other, (0, (0, 1))), True)
+        self.assertEqual(parting(one, (0, (0, 1)), other, (0, (0, 1))), [])
+
     def test_rounds_go_on_while_anything_changes(self):
         order = tuple((at, (at + 1) % 6) for at in range(6))
         rows = [("ask", "go", (), (("a", (), 1), ("b", (), 0), ("c", (), 0))), ("set", order, 2),
@@ -158,6 +164,26 @@ class AlikeTest(unittest.TestCase):
                     self.assertEqual(head(code, frames[0]), head(other, frames[1]))
                     frames = [answered(one, frame, outcome, 50 + 2 * at) for one, frame in zip((code, other), frames)]
                 self.assertNotEqual(head(code, frames[0]), head(other, frames[1]))
+
+    def test_brought_values_stand_in_neither_frame(self):
+        rows = [("ask", "get", (), (("one", (1,), 1), ("two", (0, 1), 1))), ("end", "out", (1,))]
+        other = [("ask", "get", (), (("one", (), 1), ("two", (1, 0), 1))), ("end", "out", (0,))]
+        other[0] = ("ask", "get", (), (("one", (1,), 2), ("two", (1, 0), 1)))
+        other.append(("end", "out", (2,)))
+        one, second = Code(WORLDS[1], 3, 3, rows), Code(WORLDS[1], 3, 3, other)
+        third = Code(WORLDS[1], 3, 3, [("ask", "get", (), (("one", (0,), 1), ("two", (0, 1), 2)))] + other[1:])
+        for unknown in range(8):
+            values = (unknown,) * 3
+            self.assertEqual(parting(one, (0, values), second, (0, values)), ["one"])
+            self.assertEqual(parting(one, (0, values), third, (0, values)), ["two"])
+            self.assertEqual(parting(third, (0, values), one, (0, values)), ["two"])
+
+    def test_values_brought_earlier_and_later_are_different_ones(self):
+        first = ("ask", "get", (), (("one", (0,), 3), ("two", (0, 1), 1)))
+        last = ("ask", "get", (), (("one", (2,), 3), ("two", (2, 3), 2)))
+        codes = [Code(WORLDS[1], 4, 0, [first, last, ("end", "out", (at,)), ("end", "bye", ())]) for at in range(4)]
+        for one, other in itertools.permutations(codes, 2):
+            self.assertEqual(parting(one, one.first(), other, other.first()), ["two", "two"])
 
     def test_great_values(self):
         code = Code(GO, 2, 2, [("ask", "go", (), (("a", (), 1), ("b", (), 0), ("c", (), 2))),
