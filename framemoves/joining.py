@@ -18,14 +18,17 @@ def joined(table, free, pairs):
     while ahead:
         one, other = ahead.pop()
         one, other = leader(above, one), leader(above, other)
-        low, high = min(one, other), max(one, other)
+        if one == other:
+            continue
+        low, high = (one, other) if one < other else (other, one)
         if low < free <= high:
             above[low] = high
-        elif low != high:
-            node, second = table.nodes[low], table.nodes[high]
-            if low >= free and (node[0] != second[0] or len(node) != len(second)):
-                return None
+        else:
             above[high] = low
+        if low >= free:
+            node, second = table.nodes[low], table.nodes[high]
+            if node[0] != second[0] or len(node) != len(second):
+                return None
             ahead.extend(list(zip(node[1:], second[1:])))
     return above
 
