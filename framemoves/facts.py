@@ -59,12 +59,11 @@ def are_facts(code, thing):
         return False
     table = Table([])
     patterns = [None if item is None else table.taken(item.terms) for item in thing]
-    place, values = code.first()
-    frames = [(place, table.taken(values))]
+    frames = [(0, table.taken(code.first()[1]))]
     for place, terms in enumerate(patterns):
         if terms is not None:
             frames.extend(frames_from(table, code, place, terms))
-    return all([patterns[place] is not None and table.fit(patterns[place], values) for place, values in frames])
+    return all([patterns[to] is not None and table.fit(patterns[to], values) for to, values in frames])
 
 
 def shows_fact(code, place, thing, *, most=200):

@@ -93,8 +93,8 @@ def is_bar(one, pairs, thing, *, most=200):
 
 def are_cheapest(many, enough, prices, price, keep, bars):
     """Whether any values are the price of a keep, this keep, and bars that show that no enough one is cheaper."""
-    choice = choice_of(many, keep)
-    if choice is None or not has(enough, choice) or not is_integer(price) or price != price_of(prices, choice):
+    kept = choice_of(many, keep)
+    if kept is None or not has(enough, kept) or not is_integer(price) or price != price_of(prices, kept):
         return False
     found = [choice_of(many, bar) for bar in bars] if isinstance(bars, list) else [None]
     against = bars_against(many, enough)

@@ -44,7 +44,7 @@ def needed_roads(table, equations, kept, keep):
     """Of kept roads, tuples (road, values), for which no recipe does, some for which none does, but without any one."""
     chosen = []
     while not are_without(table, equations, [values for _, values in chosen], keep):
-        # The road with which the others become too many is needed beside any choice of these.
+        # The road with which no recipe is left is needed beside whatever is chosen of those ahead of it.
         at = first_without(table, equations, [values for _, values in chosen], kept, keep)
         chosen.append(kept[at])
         kept = kept[:at]
