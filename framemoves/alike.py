@@ -40,14 +40,14 @@ def alike(one, other, *, most=200):
     """("alike", rows) if the first frames of two codes are alike, otherwise ("parted", outcomes)."""
     need_one_begin(one, other)
     rounds = Rounds(one, other, most)
-    outcomes = rounds.parting((0, 0), first_values(rounds.beside.table, one, other), one)
+    outcomes = rounds.least_parting((0, 0), first_values(rounds.beside.table, one, other), one)
     if outcomes is not None:
         return ("parted", outcomes)
     return ("alike", [(place, there, needs_at(rounds, place, there).rows())
                       for place, there in pairs_met(rounds.beside)])
 
 
-def are_tuples(one, other, thing):
+def are_row_tuples(one, other, thing):
     """Whether any value is a list of tuples (place, place, pairs) with pairs of terms over the variables of both."""
     if not (isinstance(thing, list) and all([isinstance(item, tuple) and len(item) == 3 for item in thing])):
         return False
@@ -85,7 +85,7 @@ def are_rows(one, other, thing):
     """Whether any value is a list of rows which shows that the first frames of two codes are alike."""
     need_one_begin(one, other)
     beside = Beside(one, other, MOST)
-    if not are_tuples(one, other, thing):
+    if not are_row_tuples(one, other, thing):
         return False
     told = solved_by_places(beside, thing)
     if len(told) < len(thing) or None in list(told.values()) or (0, 0) not in told:

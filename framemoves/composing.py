@@ -14,7 +14,7 @@ def parting_road(one, place, other, there, first, second, *, most=200):
     for road, values in looks.kept[place]:
         found = table.taken(looks.table.told(values))
         made = table.worked(first.plan, found) + table.worked(second.plan, found)
-        outcomes = rounds.parting((there, there), made, other)
+        outcomes = rounds.least_parting((there, there), made, other)
         if outcomes is not None:
             return (road, outcomes)
     return None

@@ -1,7 +1,7 @@
 """Terms of a Table made equal by terms for its first unknowns, the free ones; other unknowns are fixed things."""
 
 
-def leader(above, number):
+def top_of(above, number):
     """The number at the top of those that stand above a number."""
     while number in above:
         number = above[number]
@@ -17,7 +17,7 @@ def joined(table, free, pairs):
     ahead = list(pairs)
     while ahead:
         one, other = ahead.pop()
-        one, other = leader(above, one), leader(above, other)
+        one, other = top_of(above, one), top_of(above, other)
         if one == other:
             continue
         low, high = (one, other) if one < other else (other, one)
@@ -39,7 +39,7 @@ def worths(table, free, above):
     bound = sum([1 << number for number in lower])
     made = {}
     opened = {}
-    ahead = [leader(above, number) for number in lower]
+    ahead = [top_of(above, number) for number in lower]
     while ahead:
         number = ahead[-1]
         if table.masks[number] & bound == 0:
@@ -48,7 +48,7 @@ def worths(table, free, above):
             ahead.pop()
             continue
         node = table.nodes[number]
-        parts = [leader(above, part) for part in node[1:]]
+        parts = [top_of(above, part) for part in node[1:]]
         missing = [part for part in parts if part not in made]
         if missing and number in opened:
             # It is met again on the way into it, so that it would be within itself.
@@ -57,7 +57,7 @@ def worths(table, free, above):
         ahead.extend(missing)
         if not missing:
             made[number] = table.number_of(node[:1] + tuple([made[part] for part in parts]))
-    return {number: made[leader(above, number)] for number in lower}
+    return {number: made[top_of(above, number)] for number in lower}
 
 
 def solved_rows(table, free, pairs):

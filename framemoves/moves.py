@@ -31,7 +31,7 @@ def wrong_road(one, p, other, q, recipe, *, most=200):
     looks = looks_at(one, most)
     rounds = Rounds(one, other, most)
     for road, values in looks.kept[p]:
-        outcomes = rounds.parting((p, q), with_made(rounds, looks, values, recipe), one)
+        outcomes = rounds.least_parting((p, q), with_made(rounds, looks, values, recipe), one)
         if outcomes is not None:
             return (road, outcomes)
     return None

@@ -32,7 +32,7 @@ def parting_of_frames(one, frame, other, second, most):
     need_places(one, frame[0], other, second[0])
     rounds = Rounds(one, other, most)
     values = rounds.beside.table.taken(frame[1] + second[1])
-    return rounds.parting((frame[0], second[0]), values, one)
+    return rounds.least_parting((frame[0], second[0]), values, one)
 
 
 def are_alike(one, frame, other, second, *, most=200):

@@ -103,7 +103,7 @@ class Rounds:
             return None
         return [self.beside.hold(needs[places], values) for needs in self.rounds].index(False)
 
-    def parting(self, places, values, code):
+    def least_parting(self, places, values, code):
         """Of the shortest lists of outcomes behind which not the same is seen next, the least, or None.
 
         The values are those of all variables at two places, code is the first one of the codes.

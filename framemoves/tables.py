@@ -57,7 +57,7 @@ class Table:
                 made.append(values[node[0]])
         return [made[top] for top in tops]
 
-    def within(self, numbers, marked):
+    def parts_within(self, numbers, marked):
         """The ascending list of the numbers of terms and of all in them, or of those in which marked unknowns are."""
         found = {}
         ahead = list(numbers)
@@ -71,7 +71,7 @@ class Table:
     def told(self, numbers):
         """The list of the terms with these numbers."""
         made = {}
-        for number in self.within(numbers, False):
+        for number in self.parts_within(numbers, False):
             node = self.nodes[number]
             if isinstance(node[0], str):
                 made[number] = node[:1] + tuple([made[part] for part in node[1:]])
@@ -82,7 +82,7 @@ class Table:
     def moved(self, numbers, values):
         """The list of the numbers of the terms in which each marked unknown is replaced by its value."""
         made = {}
-        for number in self.within(numbers, True):
+        for number in self.parts_within(numbers, True):
             node = self.nodes[number]
             if number < self._marked:
                 made[number] = values[number]
