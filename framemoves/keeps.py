@@ -33,7 +33,7 @@ def enough_choices(one, pairs, most):
     if len(pairs) == 0:
         return found
     looks = looks_at(one, most)
-    for code, rounds in rounds_of_codes(one, [other for _, other, _ in pairs], most):
+    for code, rounds in rounds_of_codes(one, [pair[1] for pair in pairs], most):
         for p, other, q in pairs:
             if other == code and looks.patterns[p] is not None:
                 found = found & enough_for(looks, p, needs_at(rounds, p, q))
