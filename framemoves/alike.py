@@ -3,7 +3,7 @@
 from framemoves.beside import Beside
 from framemoves.checks import need_one_world
 from framemoves.errors import Unlike
-from framemoves.joining import solved_rows
+from framemoves.joining import hold, solved_rows, with_values
 from framemoves.kinds import is_below
 from framemoves.needs import needs_at
 from framemoves.rounds import Rounds
@@ -74,7 +74,7 @@ def follows(beside, told, places):
     for to, values in start[1]:
         if to not in told:
             return False
-        pairs.extend(beside.with_values(told[to], values))
+        pairs.extend(with_values(beside.table, told[to], values))
     rows = dict(told[places])
     values = [rows.get(unknown, unknown) for unknown in range(beside.many)] + list(beside.brought)
     ones = beside.table.moved([one for one, _ in pairs], values)
@@ -90,6 +90,6 @@ def are_rows(one, other, thing):
     told = solved_by_places(beside, thing)
     if len(told) < len(thing) or None in list(told.values()) or (0, 0) not in told:
         return False
-    if not beside.hold(told[0, 0], first_values(beside.table, one, other)):
+    if not hold(beside.table, told[0, 0], first_values(beside.table, one, other)):
         return False
     return all([follows(beside, told, places) for places in told])

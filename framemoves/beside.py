@@ -11,11 +11,18 @@ from framemoves.walking import frame_at, with_worths
 BROUGHT = (-1, -2)
 
 
+def start_of(table, plan, values, brought):
+    """For the plan of an ask or an end its kind, its terms, and the frames behind its outcomes, in order."""
+    ways = plan[3] if plan[0] == "ask" else ()
+    behind = [(way[2], with_worths(values, way[1], brought)) for way in ways]
+    return (plan[:2], table.worked(plan[2], values), behind)
+
+
 class Heads:
     """What is seen next from the places of a code, with some values there.
 
     views has for each place the frame at what is seen next, or None; starts has for each place of an
-    ask or an end its kind, its terms, and the frames behind its outcomes, in order.
+    ask or an end what start_of tells.
     """
 
     def __init__(self, table, code, values, brought, most):
@@ -25,9 +32,7 @@ class Heads:
             goal = code.showing(place)
             self.views.append(None if goal is None else frame_at(table, code, (place, values), goal, most))
             if place == goal:
-                ways = plan[3] if plan[0] == "ask" else ()
-                behind = [(way[2], with_worths(values, way[1], brought)) for way in ways]
-                self.starts[place] = (plan[:2], table.worked(plan[2], values), behind)
+                self.starts[place] = start_of(table, plan, values, brought)
 
 
 def core_of(start, second, brought):
@@ -88,12 +93,3 @@ class Beside:
         known = tuple(values) + (self.table.number_of((fresh,)), self.table.number_of((fresh + 1,)))
         return [(places, self.table.moved(worths[:self.many], known))
                 for places, worths in self.start(place, there)[1]]
-
-    def with_values(self, rows, values):
-        """The pairs of terms that must be equal for values to satisfy rows (variable, term)."""
-        numbers = self.table.moved([number for _, number in rows], values)
-        return [(values[row[0]], number) for row, number in zip(rows, numbers)]
-
-    def hold(self, rows, values):
-        """Whether values of all variables satisfy rows, or None, which nothing does."""
-        return rows is not None and all([one == other for one, other in self.with_values(rows, values)])

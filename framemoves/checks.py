@@ -1,6 +1,6 @@
-"""What is raised if codes and places do not belong together."""
+"""What is raised if codes, versions and places do not belong together."""
 
-from framemoves.errors import NoPlace, Unlike
+from framemoves.errors import NoPlace, NoVersion, Unlike
 from framemoves.kinds import is_below
 
 
@@ -21,3 +21,11 @@ def need_places(one, place, other, there):
     need_one_world(one, other)
     need_place(one, place)
     need_place(other, there)
+
+
+def need_version_place(yard, version, place):
+    """Raise NoVersion(version) or NoPlace(place) if a yard has no such version, or this has no such place."""
+    versions = yard.versions()
+    if not is_below(version, len(versions)):
+        raise NoVersion(version)
+    need_place(versions[version], place)

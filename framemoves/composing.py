@@ -1,6 +1,7 @@
 """What becomes of frames that are moved by one recipe or another, and there and back."""
 
 from framemoves.checks import need_places
+from framemoves.joining import hold
 from framemoves.looking import looks_at
 from framemoves.rounds import Rounds
 
@@ -32,4 +33,4 @@ def there_and_back(one, place, other, there, recipe, back, *, most=200):
     made = table.worked(back.plan, table.worked(recipe.plan, values))
     if made == values:
         return "same"
-    return "alike" if rounds.beside.hold(rounds.last[place, place], values + made) else "changed"
+    return "alike" if hold(table, rounds.last[place, place], values + made) else "changed"

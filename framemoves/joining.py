@@ -1,4 +1,9 @@
-"""Terms of a Table made equal by terms for its first unknowns, the free ones; other unknowns are fixed things."""
+"""Terms of a Table made equal by terms for its first unknowns, the free ones; other unknowns are fixed things.
+
+Solved rows are an ascending tuple of tuples (free unknown, number of a term), or None if nothing satisfies them.
+"""
+
+from framemoves.errors import TooMany
 
 
 def top_of(above, number):
@@ -70,3 +75,22 @@ def solved_rows(table, free, pairs):
     if made is None or any([table.masks[number] >> free != 0 for number in made.values()]):
         return None
     return tuple(sorted(made.items()))
+
+
+def bounded_rows(table, free, pairs, most):
+    """As solved_rows, if the rows have no more than most operations."""
+    rows = solved_rows(table, free, pairs)
+    if rows is not None and table.size_of([number for _, number in rows]) > most:
+        raise TooMany(most)
+    return rows
+
+
+def with_values(table, rows, values):
+    """The pairs of numbers that must be equal for values of all marked unknowns to satisfy rows that are not None."""
+    numbers = table.moved([number for _, number in rows], values)
+    return [(values[row[0]], number) for row, number in zip(rows, numbers)]
+
+
+def hold(table, rows, values):
+    """Whether values of all marked unknowns satisfy rows."""
+    return rows is not None and all([one == other for one, other in with_values(table, rows, values)])

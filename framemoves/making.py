@@ -1,10 +1,12 @@
 """Which recipes by a keep make alike frames of values.
 
-Equations are the needs of the two places of a move, or None; rows are lists of numbers in a Table, the
-values of frames at the first place, or least patterns of such.
+A case is a tuple (equations, known, values) of lists of terms: of the values a recipe is to make those
+that behind the known ones satisfy the equations, which may be None. Such lists are values of frames, or
+least patterns of such.
 """
 
 from framemoves.codes import NIL
+from framemoves.tables import Table
 from framemoves.terms import built
 
 
@@ -17,35 +19,47 @@ def determined(equations, values):
     return [worths.get(unknown) for unknown in range(len(values), equations.width)]
 
 
-def terms_by(equations, values, keep):
-    """The list of the terms of the recipe by a keep that makes an alike frame of values, or None if none does."""
-    worths = determined(equations, values)
-    if worths is None:
+def term_for_all(rows, keep):
+    """A term over a keep that makes of all but the last one of the terms of each row the last one, or None."""
+    if len(rows) == 0:
+        return NIL
+    table = Table([])
+    terms = table.told(table.least_of([table.taken(row) for row in rows]))
+    return built(terms[-1], terms[:-1], keep)
+
+
+def terms_by(cases, keep):
+    """The list of the terms of the recipe by a keep that does for one or more cases, or None if none does."""
+    found = [determined(equations, known) for equations, known, _ in cases]
+    if None in found:
         return None
-    terms = [NIL if worth is None else built(worth, values, keep) for worth in worths]
+    terms = []
+    for variable in range(len(found[0])):
+        rows = [case[2] + [worths[variable]] for case, worths in zip(cases, found) if worths[variable] is not None]
+        terms.append(term_for_all(rows, keep))
     return None if None in terms else terms
 
 
 def are_without(table, equations, rows, keep):
-    """Whether no recipe by a keep makes alike frames of all of rows."""
-    return len(rows) > 0 and terms_by(equations, table.told(table.least_of(rows)), keep) is None
+    """Whether no recipe by a keep makes alike frames of all of rows, lists of numbers in a Table."""
+    if len(rows) == 0:
+        return False
+    values = table.told(table.least_of(rows))
+    return terms_by([(equations, values, values)], keep) is None
 
 
-def first_without(table, equations, rows, kept, keep):
-    """The first index of kept roads such that no recipe does for rows and the roads up to there."""
-    at = -1
-    while not are_without(table, equations, rows, keep):
-        at += 1
-        rows = [table.least_of(rows + [kept[at][1]])]
-    return at
-
-
-def needed_roads(table, equations, kept, keep):
-    """Of kept roads, tuples (road, values), for which no recipe does, some for which none does, but without any one."""
+def needed(kept, fails):
+    """Of a list that fails, items that fail, but not without any one of them; with more items lists fail, too."""
     chosen = []
-    while not are_without(table, equations, [values for _, values in chosen], keep):
-        # The road with which no recipe is left is needed beside whatever is chosen of those ahead of it.
-        at = first_without(table, equations, [values for _, values in chosen], kept, keep)
-        chosen.append(kept[at])
-        kept = kept[:at]
-    return [road for road, _ in chosen]
+    while not fails(chosen):
+        low, high = 0, len(kept)
+        while high - low > 1:
+            middle = (low + high) // 2
+            if fails(chosen + kept[:middle]):
+                high = middle
+            else:
+                low = middle
+        # The item with which it fails is needed beside whatever is chosen of those ahead of it.
+        chosen.append(kept[high - 1])
+        kept = kept[:high - 1]
+    return chosen

@@ -4,7 +4,7 @@ from framemoves.checks import need_places
 from framemoves.codes import NIL
 from framemoves.errors import Unfit
 from framemoves.looking import looks_at
-from framemoves.making import are_without, needed_roads, terms_by
+from framemoves.making import are_without, needed, terms_by
 from framemoves.needs import needs_at
 from framemoves.recipes import Recipe
 from framemoves.roads import values_of_roads
@@ -50,10 +50,13 @@ def recipe_for(one, p, other, q, *, keep=None, most=200):
     if looks.patterns[p] is None:
         return ("move", Recipe(one.variables, [NIL] * other.variables))
     variables = all_or(keep, one)
-    terms = terms_by(equations, looks.table.told(looks.patterns[p]), variables)
+    values = looks.table.told(looks.patterns[p])
+    terms = terms_by([(equations, values, values)], variables)
     if terms is not None:
         return ("move", Recipe(one.variables, terms))
-    return ("stuck", needed_roads(looks.table, equations, looks.kept[p], variables))
+    table = looks.table
+    chosen = needed(looks.kept[p], lambda some: are_without(table, equations, [row[1] for row in some], variables))
+    return ("stuck", [road for road, _ in chosen])
 
 
 def are_stuck(one, p, other, q, keep, thing, *, most=200):

@@ -4,8 +4,7 @@ Needs are a tuple of solved rows (variable, number of a term), or None.
 """
 
 from framemoves.beside import Beside
-from framemoves.errors import TooMany
-from framemoves.joining import solved_rows
+from framemoves.joining import bounded_rows, hold, with_values
 
 
 def seen_from(beside, one, other):
@@ -53,11 +52,7 @@ class Rounds:
 
     def _rows_of(self, pairs):
         """The rows of pairs of terms that must be equal, or None."""
-        beside = self.beside
-        rows = solved_rows(beside.table, beside.many, pairs)
-        if rows is not None and beside.table.size_of([number for _, number in rows]) > self._most:
-            raise TooMany(self._most)
-        return rows
+        return bounded_rows(self.beside.table, self.beside.many, pairs, self._most)
 
     def _changes_at(self, pair, rows):
         """If these are the new needs of the pair, a dict from pairs from which it is seen next to their new needs."""
@@ -67,7 +62,7 @@ class Rounds:
         for origin, values in self._seen[pair]:
             needs = rows
             if rows is not None and origin != pair:
-                needs = self._rows_of(self.beside.with_values(rows, values))
+                needs = self._rows_of(with_values(self.beside.table, rows, values))
             if needs != self.last[origin]:
                 found[origin] = needs
         return found
@@ -86,7 +81,7 @@ class Rounds:
             if places in changes:
                 if changes[places] is None:
                     return None
-                pairs.extend(self.beside.with_values(changes[places], values))
+                pairs.extend(with_values(self.beside.table, changes[places], values))
         return self._rows_of(pairs)
 
     def _next_changes(self, changes):
@@ -99,9 +94,9 @@ class Rounds:
 
     def parted_at(self, places, values):
         """The number of the first round whose needs values of all variables at two places do not satisfy, or None."""
-        if self.beside.hold(self.last[places], values):
+        if hold(self.beside.table, self.last[places], values):
             return None
-        return [self.beside.hold(needs[places], values) for needs in self.rounds].index(False)
+        return [hold(self.beside.table, needs[places], values) for needs in self.rounds].index(False)
 
     def least_parting(self, places, values, code):
         """Of the shortest lists of outcomes behind which not the same is seen next, the least, or None.
@@ -118,7 +113,7 @@ class Rounds:
             ways = code.plans[code.showing(places[0])][3]
             # Unknowns below 0 stand in no frame that is handed in.
             behind = self.beside.frames_behind(places[0], places[1], values, -2 * len(outcomes) - 2)
-            chosen = [self.beside.hold(self.rounds[at][to], worths) for to, worths in behind].index(False)
+            chosen = [hold(self.beside.table, self.rounds[at][to], worths) for to, worths in behind].index(False)
             outcomes.append(ways[chosen][0])
             places, values = behind[chosen]
         return outcomes

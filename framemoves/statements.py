@@ -2,7 +2,7 @@
 
 from framemoves.kinds import are_values, is_below, is_name
 from framemoves.nodes import laid
-from framemoves.terms import unknowns
+from framemoves.terms import put_all, unknowns
 
 
 def are_terms_over(variables, many, thing):
@@ -93,3 +93,26 @@ def plan_of(statement):
         changes = statement[1]
         return ("set", tuple([change[0] for change in changes]), laid([change[1] for change in changes]), statement[2])
     return statement[:2] + (laid(statement[2]),) + statement[3:]
+
+
+def leads(statement):
+    """The list of the places to which a statement leads, a call too, those of ways in order."""
+    if statement[0] == "set":
+        return [statement[2]]
+    if statement[0] == "call":
+        return [statement[4]]
+    return [way[2] for way in statement[3]] if statement[0] == "ask" else []
+
+
+def restated(statement, order, tos):
+    """The statement with the variable order[v] in the place of v, that leads to the places tos, in order."""
+    if statement[0] == "set":
+        terms = put_all([term for _, term in statement[1]], order)
+        return ("set", tuple([(order[change[0]], term) for change, term in zip(statement[1], terms)]), tos[0])
+    told = statement[:2] + (tuple(put_all(statement[2], order)),)
+    if statement[0] == "ask":
+        ways = [(way[0], tuple([order[variable] for variable in way[1]]), to) for way, to in zip(statement[3], tos)]
+        return told + (tuple(ways),)
+    if statement[0] == "call":
+        return told + (tuple([order[variable] for variable in statement[3]]), tos[0])
+    return told

@@ -8,8 +8,8 @@ from framemoves.stepping import way_from
 
 
 def bounded(table, values, most):
-    """The values, if they have no more than most operations together."""
-    if table.size_of(values) > most:
+    """The values, if they have no more than most operations together; there is no such bound if most is None."""
+    if most is not None and table.size_of(values) > most:
         raise TooMany(most)
     return values
 
@@ -51,6 +51,13 @@ def frame_at(table, code, frame, goal, most):
     while frame[0] != goal:
         frame = frame_behind_set(table, code, frame, most)
     return frame
+
+
+def head_of(table, code, frame):
+    """What the ask or the end shows that stands at the place of a frame, with the numbers of its terms."""
+    place, values = frame
+    plan = code.plans[place]
+    return plan[:2] + (tuple(table.worked(plan[2], values)),)
 
 
 class Trail:

@@ -29,6 +29,10 @@ FUNCTIONS = {
     "composing": ["parting_road(one, place, other, there, first, second, *, most=200)",
                   "there_and_back(one, place, other, there, recipe, back, *, most=200)"],
     "histories": ["frame_of(yard, history)", "is_history(yard, thing)", "shown(yard, history)"],
+    "calm": ["yard_needs(yard, there, version, place, *, most=200)", "calm(yard, *, most=200)",
+             "recipe_once(yard, version, place, other, there, *, most=200)", "are_calm_rows(yard, thing)"],
+    "unfolding": ["unfolded(unit, name)"],
+    "putting": ["put_in(unit, name, place)"],
 }
 
 CLASSES = {
@@ -44,6 +48,9 @@ CLASSES = {
                                               "__len__", "__repr__"],
     ("yards", "Yard(true, versions, moves, *, begins=(0,))"): ["true", "begins", "versions(self)", "moves(self)",
                                                                "with_move(self, move)", "__eq__"],
+    ("units", "Unit(world, functions)"): ["world", "functions(self)", "function(self, name)", "__eq__"],
+    ("unfolding", "Unfolding(unit, name)"): ["code", "outermost", "stacks(self)", "frames_of(self, frame)",
+                                             "place_of(self, stack)", "frame_of(self, frames)"],
 }
 
 

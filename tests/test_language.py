@@ -19,7 +19,7 @@ NODES = {"Module", "Expr", "Constant", "ImportFrom", "alias", "FunctionDef", "Cl
          "Assign", "AugAssign", "Name", "Load", "Store", "Return", "Raise", "If", "For", "While", "Break",
          "Continue", "Pass", "Try", "ExceptHandler", "Call", "keyword", "Attribute", "Subscript", "Slice", "Tuple",
          "List", "Dict", "ListComp", "DictComp", "SetComp", "comprehension", "BoolOp", "And", "Or", "UnaryOp", "Not",
-         "USub", "BinOp", "Add", "Sub", "Mult", "Mod", "BitAnd", "BitOr", "LShift", "RShift", "Compare", "Eq", "NotEq", "Lt", "LtE", "Gt", "GtE", "Is", "IsNot",
+         "USub", "BinOp", "Add", "Sub", "Mult", "Mod", "FloorDiv", "BitAnd", "BitOr", "LShift", "RShift", "Compare", "Eq", "NotEq", "Lt", "LtE", "Gt", "GtE", "Is", "IsNot",
          "In", "NotIn", "IfExp", "JoinedStr", "FormattedValue", "Lambda"}
 
 BUILTINS = {"len", "range", "enumerate", "zip", "min", "max", "sum", "abs", "sorted", "reversed", "int", "str", "bool",
@@ -27,7 +27,7 @@ BUILTINS = {"len", "range", "enumerate", "zip", "min", "max", "sum", "abs", "sor
             "property", "staticmethod"}
 
 # The classes whose objects change behind their making. Objects of the interface are of none of these.
-CHANGING = {"Table", "Looks", "Rounds", "Trail", "Walk"}
+CHANGING = {"Table", "Looks", "Rounds", "Trail", "Walk", "Cores", "Standings", "Tracks", "Watch"}
 
 METHODS = set("""append clear copy count endswith extend find get index insert isalnum isalpha isdigit islower isspace
 isupper items join keys ljust lower lstrip partition pop remove replace reverse rfind rjust rpartition rsplit rstrip

@@ -3,6 +3,7 @@
 import unittest
 
 from framemoves.alike import alike
+from framemoves.calm import calm, recipe_once, yard_needs
 from framemoves.codes import Code
 from framemoves.facts import facts, kept_roads
 from framemoves.histories import frame_of, shown
@@ -10,15 +11,20 @@ from framemoves.keeps import cheapest
 from framemoves.moves import recipe_for, wrong_road
 from framemoves.needs import all_needs, parting
 from framemoves.patterns import Pattern
+from framemoves.putting import put_in
 from framemoves.recipes import Recipe
 from framemoves.solving import Equations
+from framemoves.unfolding import unfolded
+from framemoves.units import Unit
 from framemoves.worlds import World
 from framemoves.yards import Yard
 from plain import WORLDS, histories_of, random_code, varied
+from plain_units import random_unit
+from plain_yards import all_standings, random_yard
 from support import outcome_of, seeded
 
 # What the results themselves are told with, and the constant that first frames have, is renamed to itself.
-FIXED = ("nil", "set", "ask", "end", "silent", "alike", "parted", "move", "stuck", "may", "must", "")
+FIXED = ("nil", "set", "ask", "end", "silent", "alike", "parted", "move", "stuck", "may", "must", "", "call", "back", "calm")
 
 
 def renamed(thing):
@@ -39,6 +45,10 @@ def renamed(thing):
         return Recipe(thing.variables, renamed(thing.terms))
     if isinstance(thing, Equations):
         return Equations(thing.width, renamed(thing.rows()))
+    if isinstance(thing, Yard):
+        return Yard(renamed(thing.true), renamed(thing.versions()), renamed(thing.moves()), begins=thing.begins)
+    if isinstance(thing, Unit):
+        return Unit(renamed(thing.world), {renamed(name): renamed(thing.function(name)) for name in thing.functions()})
     return thing
 
 
@@ -67,6 +77,28 @@ class RenamedTest(unittest.TestCase):
             for history in histories_of(yard, 4)[:20]:
                 self.assertEqual(frame_of(second, renamed(history)), renamed(frame_of(yard, history)))
                 self.assertEqual(shown(second, renamed(history)), renamed([tuple(row) for row in shown(yard, history)]))
+
+    def test_results_of_yards_are_renamed(self):
+        rng = seeded(111)
+        for _ in range(60):
+            yard = random_yard(rng)
+            self.check(calm, yard)
+            for _ in range(4):
+                self.check(yard_needs, yard, *rng.choice(all_standings(yard)))
+                self.check(recipe_once, yard, *rng.choice(all_standings(yard))[1:], *rng.choice(all_standings(yard))[1:])
+
+    def test_results_of_units_are_renamed(self):
+        rng = seeded(112)
+        for _ in range(60):
+            unit = random_unit(rng)
+            for name in unit.functions():
+                told, second = outcome_of(unfolded, unit, name), outcome_of(unfolded, renamed(unit), renamed(name))
+                if isinstance(told, tuple):
+                    self.assertEqual(second, told)
+                else:
+                    self.assertEqual([second.code, second.stacks()], [renamed(told.code), renamed(told.stacks())])
+                for place in range(len(unit.function(name)[3])):
+                    self.check(put_in, unit, name, place)
 
 
 if __name__ == "__main__":
