@@ -84,15 +84,27 @@ def in_order(statement):
     return statement
 
 
+def terms_in(statement):
+    """The list of the whole terms of a statement that is no back, in order."""
+    return [term for _, term in statement[1]] if statement[0] == "set" else list(statement[2])
+
+
+def with_terms(statement, terms):
+    """The statement with other whole terms, in order."""
+    if statement[0] == "set":
+        return ("set", tuple([(change[0], term) for change, term in zip(statement[1], terms)]), statement[2])
+    return statement[:2] + (tuple(terms),) + statement[3:]
+
+
 def plan_of(statement):
     """The statement with its terms laid out once, so that values can be put into them often.
 
     It is ("set", variables, laid, to), ("ask", act, laid, ways) or ("end", word, laid).
     """
+    plan = laid(terms_in(statement))
     if statement[0] == "set":
-        changes = statement[1]
-        return ("set", tuple([change[0] for change in changes]), laid([change[1] for change in changes]), statement[2])
-    return statement[:2] + (laid(statement[2]),) + statement[3:]
+        return ("set", tuple([change[0] for change in statement[1]]), plan, statement[2])
+    return statement[:2] + (plan,) + statement[3:]
 
 
 def leads(statement):
@@ -106,13 +118,12 @@ def leads(statement):
 
 def restated(statement, order, tos):
     """The statement with the variable order[v] in the place of v, that leads to the places tos, in order."""
+    moved = with_terms(statement, put_all(terms_in(statement), order))
     if statement[0] == "set":
-        terms = put_all([term for _, term in statement[1]], order)
-        return ("set", tuple([(order[change[0]], term) for change, term in zip(statement[1], terms)]), tos[0])
-    told = statement[:2] + (tuple(put_all(statement[2], order)),)
+        return ("set", tuple([(order[variable], term) for variable, term in moved[1]]), tos[0])
     if statement[0] == "ask":
         ways = [(way[0], tuple([order[variable] for variable in way[1]]), to) for way, to in zip(statement[3], tos)]
-        return told + (tuple(ways),)
+        return moved[:3] + (tuple(ways),)
     if statement[0] == "call":
-        return told + (tuple([order[variable] for variable in statement[3]]), tos[0])
-    return told
+        return moved[:3] + (tuple([order[variable] for variable in statement[3]]), tos[0])
+    return moved

@@ -33,6 +33,12 @@ FUNCTIONS = {
              "recipe_once(yard, version, place, other, there, *, most=200)", "are_calm_rows(yard, thing)"],
     "unfolding": ["unfolded(unit, name)"],
     "putting": ["put_in(unit, name, place)"],
+    "rewriting": ["without_dead(code, *, most=200)", "same_once(code, *, most=200)", "unrolled(code, place)"],
+    "trust": ["doubled_world(world, promise)", "doubled(code, promise)", "trusting(code, promise)"],
+    "looks": ["look_yard(code, lean, promise, looks)", "fewest_looks(code, lean, promise, looks, *, most=200)",
+              "is_sound(yard, move, *, most=200)"],
+    "notation": ["show_term(term)", "show_code(code)", "show_move(move)", "show_deed(deed)", "show_log(book)", "read_term(text)",
+                 "read_code(text)", "read_move(text)", "read_deed(text)", "read_log(true, text)"],
 }
 
 CLASSES = {
@@ -49,6 +55,9 @@ CLASSES = {
     ("yards", "Yard(true, versions, moves, *, begins=(0,))"): ["true", "begins", "versions(self)", "moves(self)",
                                                                "with_move(self, move)", "__eq__"],
     ("units", "Unit(world, functions)"): ["world", "functions(self)", "function(self, name)", "__eq__"],
+    ("book", "Book(true)"): ["do(self, deed)", "frame(self)", "back(self)", "again(self)", "yard(self)", "outcomes(self)",
+                             "shown(self)", "log(self)", "is_right(self)", "until(self, many)", "trial(self, act)", "__eq__",
+                             "__len__"],
     ("unfolding", "Unfolding(unit, name)"): ["code", "outermost", "stacks(self)", "frames_of(self, frame)",
                                              "place_of(self, stack)", "frame_of(self, frames)"],
 }

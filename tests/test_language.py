@@ -27,7 +27,7 @@ BUILTINS = {"len", "range", "enumerate", "zip", "min", "max", "sum", "abs", "sor
             "property", "staticmethod"}
 
 # The classes whose objects change behind their making. Objects of the interface are of none of these.
-CHANGING = {"Table", "Looks", "Rounds", "Trail", "Walk", "Cores", "Standings", "Tracks", "Watch"}
+CHANGING = {"Table", "Looks", "Rounds", "Trail", "Walk", "Cores", "Standings", "Tracks", "Watch", "Book"}
 
 METHODS = set("""append clear copy count endswith extend find get index insert isalnum isalpha isdigit islower isspace
 isupper items join keys ljust lower lstrip partition pop remove replace reverse rfind rjust rpartition rsplit rstrip

@@ -8,12 +8,15 @@ from framemoves.codes import Code
 from framemoves.facts import facts, kept_roads
 from framemoves.histories import frame_of, shown
 from framemoves.keeps import cheapest
+from framemoves.looks import fewest_looks, look_yard
 from framemoves.moves import recipe_for, wrong_road
 from framemoves.needs import all_needs, parting
 from framemoves.patterns import Pattern
 from framemoves.putting import put_in
 from framemoves.recipes import Recipe
+from framemoves.rewriting import same_once, unrolled, without_dead
 from framemoves.solving import Equations
+from framemoves.trust import doubled, doubled_world, trusting
 from framemoves.unfolding import unfolded
 from framemoves.units import Unit
 from framemoves.worlds import World
@@ -27,12 +30,18 @@ from support import outcome_of, seeded
 FIXED = ("nil", "set", "ask", "end", "silent", "alike", "parted", "move", "stuck", "may", "must", "", "call", "back", "calm")
 
 
+class Promise(dict):
+    """A promise, whose names are renamed, too."""
+
+
 def renamed(thing):
     """The thing with all names in it renamed; an a behind each of two names does not change their order."""
     if isinstance(thing, str):
         return thing if thing in FIXED else thing[:-1] + "a-" if thing.endswith("-") else thing + "a"
     if isinstance(thing, (list, tuple)):
         return type(thing)(renamed(item) for item in thing)
+    if isinstance(thing, Promise):
+        return Promise({renamed(act): renamed(outcome) for act, outcome in thing.items()})
     if isinstance(thing, World):
         acts = [(act, thing.arguments(act), thing.outcomes(act)) for act in thing.acts()]
         return World({renamed(act): (many, {renamed(outcome): thing.brings(act, outcome) for outcome in outcomes})
@@ -99,6 +108,23 @@ class RenamedTest(unittest.TestCase):
                     self.assertEqual([second.code, second.stacks()], [renamed(told.code), renamed(told.stacks())])
                 for place in range(len(unit.function(name)[3])):
                     self.check(put_in, unit, name, place)
+
+    def test_results_of_rewriting_and_promises_are_renamed(self):
+        rng = seeded(113)
+        for _ in range(60):
+            code = random_code(rng, rng.choice([WORLDS[0], WORLDS[2]]), 2, 1, rng.randrange(2, 5))
+            for call in (without_dead, same_once):
+                self.check(call, code)
+            self.check(unrolled, code, rng.randrange(len(code)))
+            act = code.world.acts()[0]
+            promise = Promise({act: code.world.outcomes(act)[0]}) if rng.random() < 0.7 else Promise()
+            self.check(doubled_world, code.world, promise)
+            self.check(doubled, code, promise)
+            self.check(trusting, code, promise)
+            looks = [(at, at, Recipe.keeping(2)) for at in rng.sample(range(len(code)), 2)]
+            lean = trusting(code, promise)
+            self.check(look_yard, code, lean, promise, looks)
+            self.check(fewest_looks, code, lean, promise, looks)
 
 
 if __name__ == "__main__":
