@@ -3,6 +3,7 @@
 from framemoves.checks import need_place, need_version_place
 from framemoves.codes import NIL
 from framemoves.errors import Unfit
+from framemoves.facts import NEW
 from framemoves.kinds import are_values, is_below
 from framemoves.making import needed, terms_by
 from framemoves.patterns import Pattern
@@ -10,10 +11,6 @@ from framemoves.recipes import Recipe
 from framemoves.standings import Standings
 from framemoves.tracks import Tracks, standing_of, values_of
 from framemoves.watching import Watch
-
-# Unknowns that are brought stand nowhere else if they are below 0.
-NEW = -2
-
 
 def yard_needs(yard, there, version, place, *, most=200):
     """The needs of a standing, Equations over the variables of the true code and of the version, or None."""

@@ -38,7 +38,8 @@ def doubled_world(world, promise):
     for act in world.acts():
         brought = {outcome: world.brings(act, outcome) for outcome in world.outcomes(act)}
         if act not in promise:
-            brought.update({outcome + "-": many for outcome, many in brought.items()})
+            by_fall = {outcome + "-": many for outcome, many in brought.items()}
+            brought.update(by_fall)
         acts[act] = (world.arguments(act), brought)
     return World(acts)
 

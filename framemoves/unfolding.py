@@ -135,6 +135,11 @@ class Unfolding:
                 found[variable] = value
         return (place, tuple(found))
 
+    def __eq__(self, other):
+        if not isinstance(other, Unfolding):
+            return False
+        return self._outermost == other._outermost and self._unit == other._unit
+
 
 def unfolded(unit, name):
     """The Unfolding of a function."""

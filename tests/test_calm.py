@@ -203,13 +203,10 @@ class CalmTest(unittest.TestCase):
         wide = Code(GO, 1, 1, [start, ("end", "out", ()), ("end", "out", (0,))])
         great = Code(GO, 1, 1, [start, ("set", ((0, nested(5)),), 2), ("set", ((0, ("c",)),), 3), ("end", "out", ())])
         for yard, most in [(Yard(wide, [great], []), 5), (Yard(great, [wide], []), 5), (Yard(great, [great], []), 5),
-                           (Yard(wide, [wide], [(0, 1, 0, 1, Recipe(1, [nested(4)]), "must")]), 0),
-                           (Yard(wide, [wide], [(0, 1, 0, 1, Recipe(1, [("c",)]), "may")]), 1)]:
-            if most:
-                self.assertEqual(outcome_of(calm, yard, most=most - 1) if most > 1 else (TooMany, {"limit": most - 1}),
-                                 (TooMany, {"limit": most - 1}))
-                self.assertEqual(calm(yard, most=most)[0], "calm")
-                self.assertEqual(calm(yard, most=200), calm(yard, most=most))
+                           (Yard(wide, [wide, wide], [(0, 1, 1, 1, Recipe(1, [nested(5)]), "may")]), 5)]:
+            self.assertEqual(outcome_of(calm, yard, most=most - 1), (TooMany, {"limit": most - 1}))
+            self.assertEqual(calm(yard, most=most)[0], "calm")
+            self.assertEqual(calm(yard, most=200), calm(yard, most=most))
         # Of one variable each code has a value of four operations.
         both = Code(GO, 1, 1, [("set", ((0, nested(4)),), 1), ("ask", "go", (), ways(1, 2, 2)), ("end", "out", (0,))])
         self.assertEqual(outcome_of(calm, Yard(both, [both], []), most=7), (TooMany, {"limit": 7}))

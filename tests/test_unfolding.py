@@ -1,4 +1,5 @@
 import unittest
+import unittest.mock
 
 from framemoves.codes import Code
 from framemoves.errors import NoFunction, TooMany, Unfit
@@ -8,7 +9,7 @@ from framemoves.units import Unit
 from framemoves.worlds import World
 from plain import WORLDS
 from plain_units import plain_seen, plain_stacks, random_unit
-from support import outcome_of, seeded, unchanged
+from support import any_values, outcome_of, seeded, unchanged
 
 GO = WORLDS[2]
 NIL = ("nil",)
@@ -190,7 +191,13 @@ class FramesTest(unittest.TestCase):
         for _ in range(3):
             self.assertEqual([len(one.stacks()), len(other.stacks()), one.place_of((("main", 0),)), other.place_of((("main", 0),))],
                              [13, 4, None, 0])
-        self.assertTrue(one != other and one != DEEP and one != one.code)
+
+    def test_equal(self):
+        one = unfolded(DEEP, "top")
+        self.assertTrue(one == unfolded(DEEP, "top") and not one != unfolded(DEEP, "top"))
+        for thing in any_values() + [unfolded(DEEP, "wide"), unfolded(UNIT, "main"), DEEP, one.code, unittest.mock.ANY]:
+            self.assertIs(one == thing, False)
+            self.assertIs(one != thing, True)
 
 
 if __name__ == "__main__":
