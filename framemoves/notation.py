@@ -202,9 +202,8 @@ def deeds_in(text):
     deeds = []
     at = 0
     while at < len(lines) - 1:
+        # If there are not so many lines, nothing has the text of those that there are.
         count = lines_of_deed(lines, at)
-        if at + count > len(lines) - 1:
-            raise NoText()
         deeds.append(read_deed("\n".join(lines[at:at + count])))
         at += count
     return deeds

@@ -57,7 +57,10 @@ def leaf_in(word):
 
 
 def laxly_read(text):
-    """The list of what stands in a text of terms, commas and blanks being passed over, or None."""
+    """The list of what stands in a text of terms, perhaps with None in it, or None.
+
+    Commas, blanks and what is not closed are passed over.
+    """
     names = []
     rows = [[]]
     for word in words_of(text):
@@ -74,11 +77,8 @@ def laxly_read(text):
             parts = rows.pop()
             rows[-1].append((names.pop(),) + tuple(parts))
         elif word != ",":
-            leaf = leaf_in(word)
-            if leaf is None:
-                return None
-            rows[-1].append(leaf)
-    return rows[0] if len(names) == 0 else None
+            rows[-1].append(leaf_in(word))
+    return rows[0]
 
 
 def terms_told(text):
@@ -92,7 +92,7 @@ def terms_told(text):
 def term_in(text):
     """The term with a text, or None."""
     found = terms_told(text)
-    return found[0] if found is not None and len(found) == 1 and texts_of(found) == [text] else None
+    return found[0] if found is not None and texts_of(found) == [text] else None
 
 
 def listed_in(text):

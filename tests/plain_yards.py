@@ -170,7 +170,7 @@ def plain_calm(yard, most=200):
     return ("calm", [place + (told[2][place].terms,) for place in sorted(told[2])])
 
 
-def pairs_from(yard, there, version, place, terms):
+def pairs_from(yard, there, version, place, terms, fresh=900):
     """What is seen next of both, and the list of the (standing, values) behind each item that can come."""
     many = yard.true.variables
     known, values = terms[:many], terms[many:]
@@ -186,9 +186,9 @@ def pairs_from(yard, there, version, place, terms):
             heads[1] = statement[:2] + (tuple(plain_put(term, state) for term in statement[2]),)
     behind = []
     for item in [""] + list(range(len(yard.moves()))) + [way for act in yard.true.world.acts() for way in yard.true.world.outcomes(act)]:
-        after = plain_item(yard, (version, place, values, 900, []), item)
+        after = plain_item(yard, (version, place, values, fresh, []), item)
         if after is not None and heads[0] == heads[1]:
-            followed = frames_after(yard.true, there, known, 900).get(item, (there, known))
+            followed = frames_after(yard.true, there, known, fresh).get(item, (there, known))
             behind.append(((followed[0],) + after[:2], followed[1] + after[2]))
     return heads[0] == (heads[1] or ("silent",)), behind if heads[1] else silent_behind(yard, there, version, place, known, values)
 

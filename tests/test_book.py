@@ -62,7 +62,7 @@ class DeedsTest(unittest.TestCase):
 
     def test_no_deeds(self):
         bad = any_values() + [(), ("go",), ("go", "yes", 0), ["go", "yes"], ("Go", "yes"), ("going", 0), ("", 0), (0, "go"), (None, 0), (b"go", 0),
-                              (Pleasing(), 0), ("go", None), ("go", True), ("go", False), ("go", "Yes"), ("go", "-"), ("go", "yes--"),
+                              (Pleasing(), 0), (Pleasing(), fast), ("go", None), ("go", True), ("go", False), ("go", "Yes"), ("go", "-"), ("go", "yes--"),
                               ("go", "-yes"), ("go", "ninechars"), ("go", " "), ("go", ("yes",)), ("go", ["yes"]), ("go", b"yes"),
                               ("go", Pleasing()), ("go", 1j), ("drop", "0"), ("drop", True), ("drop", None), ("drop", ""), ("drop", (0,)),
                               ("begin", "0"), ("begin", False), ("begin", None), ("begin", [0]), ("version", None), ("version", Code),
@@ -407,6 +407,7 @@ class BookTest(unittest.TestCase):
         self.assertTrue(one == other and not one != other)
         same = book_of(("version", Code(fast.world, 3, 2, fast.statements())), ("move", MOVE[:4] + (Recipe(3, (0, 1, TWICE)), "may")))
         self.assertTrue(one == same and not one != same)
+        self.assertTrue(Book(plain) != Book(fast) and Book(plain) == Book(plain))
         for more in [Book(plain), Book(fast), one.until(1), book_of(("version", fast), ("move", MOVE), ("begin", 0)),
                      book_of(("version", plain), ("move", MOVE)), book_of(("version", plain), ("move", MOVE), true=fast)]:
             self.assertTrue(one != more and not one == more)

@@ -10,7 +10,7 @@ from framemoves.solving import Equations
 from framemoves.worlds import World
 from framemoves.yards import Yard
 from plain import WORLDS, histories_of, plain_history, plain_item
-from plain_yards import (all_standings, is_right_history, outcomes_of, plain_are_calm_rows, plain_calm, plain_looks, plain_needs,
+from plain_yards import (all_standings, is_right_history, outcomes_of, pairs_from, plain_are_calm_rows, plain_calm, plain_looks, plain_needs,
                          plain_terms_once, plain_yard_rounds, random_yard, standing_and_values)
 from support import Pleasing, any_values, in_lists, nested, outcome_of, random_term, seeded, unchanged
 from test_histories import FAST, PLAIN, TWICE, YARD
@@ -109,6 +109,14 @@ class NeedsTest(unittest.TestCase):
         old = Code(GET, 2, 1, [("ask", "get", (), (("one", (0,), 1), ("two", (1, 0), 1))), ("end", "out", (1,))])
         self.assertEqual(yard_needs(Yard(keep, [keep], []), 0, 0, 0).rows(), [])
         self.assertEqual(yard_needs(Yard(keep, [old], []), 0, 0, 0), None)
+
+    def test_two_brought_values(self):
+        true = Code(GET, 2, 0, [("ask", "get", (), (("one", (1,), 1), ("two", (0, 1), 1))), ("end", "out", (1,))])
+        for target, rows in [(1, None), (2, [])]:
+            one = Code(GET, 3, 0, [("ask", "get", (), (("one", (2,), 1), ("two", (0, target), 1))), ("end", "out", (2,))])
+            for versions in ([one], [one, Code(GET, 5, 0, [("end", "out", ())])]):
+                found = yard_needs(Yard(true, versions, []), 0, 0, 0)
+                self.assertEqual(found if found is None else found.rows(), rows)
 
     def test_errors(self):
         for standing, error in [((4, 2, 9), (NoPlace, {"place": 4})), ((-1, 0, 0), (NoPlace, {"place": -1})),
@@ -355,6 +363,11 @@ class OnceTest(unittest.TestCase):
         self.assertEqual([len(history) for history in recipe_once(stuck_yard(2), 0, 4, 1, 1)[1]], [3, 3])
 
 
+def plain_width(yard, standing):
+    """How many values both frames of a standing have."""
+    return yard.true.variables + yard.versions()[standing[1]].variables
+
+
 class SecondTest(unittest.TestCase):
     def test_needs_as_told_a_second_time(self):
         rng = seeded(73)
@@ -372,6 +385,33 @@ class SecondTest(unittest.TestCase):
                     kinds[None if rows is None else min(len(rows), 3)] = True
             kinds["rounds", min(len(rounds), 6)] = True
         self.assertGreaterEqual(set(kinds), {None, 0, 1, 2, 3, ("rounds", 6)})
+
+    def test_values_satisfy_needs_if_the_same_is_shown(self):
+        rng = seeded(733)
+        found = []
+        for _ in range(150):
+            yard = random_yard(rng)
+            rounds = outcome_of(plain_yard_rounds, yard)
+            for standing in rng.sample(all_standings(yard), 2) if isinstance(rounds, list) and len(rounds) < 7 else []:
+                for _ in range(4):
+                    values = tuple(rng.choice([0, 0, 1, NIL, ("f", 0)]) for _ in range(plain_width(yard, standing)))
+                    needs = yard_needs(yard, *standing)
+                    found.append(needs is not None and values in needs)
+                    self.assertIs(found[-1], self.is_shown_the_same(yard, standing, values, len(rounds)), (standing, values))
+        self.assertGreater(min(found.count(True), found.count(False)), 40)
+
+    def is_shown_the_same(self, yard, standing, values, deep):
+        """Whether the same is seen next of both frames behind fewer than so many items."""
+        level = [(standing, values)]
+        for at in range(deep):
+            following = []
+            for place, some in level:
+                same, behind = pairs_from(yard, *place, some, 900 + 2 * at)
+                if not same:
+                    return False
+                following.extend(behind)
+            level = [pair for at, pair in enumerate(following) if pair not in following[:at]]
+        return True
 
     def test_calm_as_told_a_second_time(self):
         rng = seeded(731)

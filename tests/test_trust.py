@@ -97,6 +97,13 @@ class CodeTest(unittest.TestCase):
         self.assertEqual(code.statement(3), ("ask", "check", (), (("bad", (), 5), ("bad-", (), 5), ("ok", (), 4), ("ok-", (), 4))))
         self.assertEqual(trusting(PAIR, {}), PAIR)
 
+    def test_words_that_are_promised_acts(self):
+        rows = [("ask", "check", (), (("ok", (), 1), ("bad", (), 1))), ("end", "check", (0,))]
+        code = Code(SMALL, 1, 1, rows)
+        self.assertEqual(trusting(code, {"check": "ok"}).statements(), [("set", (), 1), rows[1]])
+        self.assertEqual(doubled(code, {"check": "ok"}).statements()[1:], [
+            rows[1], ("ask", "check", (), (("bad", (), 3), ("ok", (), 3))), rows[1]])
+
     def test_trusting(self):
         self.assertEqual(unchanged(self, trusting, CODE, BOTH), Code(WORLD, 2, 1, [("set", (), 1)] + CODE.statements()[1:]))
         self.assertEqual(trusting(PAIR, {"check": "bad"}), Code(SMALL, 2, 1, [("set", (), 2)] + PAIR.statements()[1:]))

@@ -70,7 +70,8 @@ class StacksTest(unittest.TestCase):
     def test_sixty_of_them(self):
         for many in (59, 60):
             self.assertEqual(len(unfolded(chain_unit(many), "main").stacks()), many)
-            self.assertEqual(len(unfolded(chain_unit(many), "main").code), many)
+            code = unfolded(chain_unit(many), "main").code
+            self.assertEqual((len(code), code.variables), (many, 0))
         for many in (61, 62, 300):
             self.assertEqual(unchanged(self, unfolded, chain_unit(many), "main"), (TooMany, {"limit": 60}))
         self.assertEqual(len(unfolded(chain_unit(300), "low").stacks()), 1)
@@ -195,7 +196,7 @@ class FramesTest(unittest.TestCase):
     def test_equal(self):
         one = unfolded(DEEP, "top")
         self.assertTrue(one == unfolded(DEEP, "top") and not one != unfolded(DEEP, "top"))
-        for thing in any_values() + [unfolded(DEEP, "wide"), unfolded(UNIT, "main"), DEEP, one.code, unittest.mock.ANY]:
+        for thing in any_values() + [unfolded(DEEP, "wide"), unfolded(Unit(GO, {"top": (0, 0, 0, [("back", ())])}), "top"), unfolded(UNIT, "main"), DEEP, one.code, unittest.mock.ANY]:
             self.assertIs(one == thing, False)
             self.assertIs(one != thing, True)
 

@@ -67,7 +67,8 @@ class FunctionsTest(unittest.TestCase):
                               ("call", None, (0,), (0, 1), 0), ("call", ["other"], (0,), (0, 1), 0), ("call", Pleasing(), (0,), (0, 1), 0),
                               ("call", "other", (0,), (0, 1), 0, 0), ("call", "other", (0,), (True, 2), 0), ("call", "other", (None,), (0, 1), 0),
                               ("set", ((0, 3),), 0), ("set", (), 5), ("set", ((0, 1), (0, 2)), 0), ("ask", "go", (), WAYS[:2]),
-                              ("ask", "gone", (), WAYS), ("end", "out", (0, 1, 2)), ("end", "Out", ()), ["back", (0, 1)], (Pleasing(), (0, 1))]
+                              ("ask", "gone", (), WAYS), ("end", "out", (0, 1, 2)), ("end", "Out", ()), ["back", (0, 1)], (Pleasing(), (0, 1)), (),
+                              (Pleasing(), "other", (0,), (0, 1), 0)]
         for thing in bad:
             rows = FULL[3][:4] + [thing]
             self.check("main", {"main": FULL[:3] + (rows,), "other": OTHER})
