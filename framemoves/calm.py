@@ -12,6 +12,7 @@ from framemoves.standings import Standings
 from framemoves.tracks import Tracks, standing_of, values_of
 from framemoves.watching import Watch
 
+
 def yard_needs(yard, there, version, place, *, most=200):
     """The needs of a standing, Equations over the variables of the true code and of the version, or None."""
     need_place(yard.true, there)
