@@ -61,7 +61,6 @@ def is_sound(yard, move, *, most=200):
         if standing[1:] == (version, place):
             terms = watch.table.told(pattern)
             many = yard.true.variables
-            equations = standings.needs_at((standing[0], other, there))
-            if equations is None or tuple(terms[:many]) + recipe(terms[many:]) not in equations:
+            if not standings.are_met((standing[0], other, there), terms[:many], terms[many:], recipe):
                 return False
     return True

@@ -7,7 +7,7 @@ of a version, as many as the widest one has, then the things that an outcome bri
 
 from framemoves.beside import BROUGHT, Heads, core_of, start_of
 from framemoves.grounds import Ground
-from framemoves.joining import bounded_rows, with_values
+from framemoves.joining import bounded_rows, hold, with_values
 from framemoves.solving import with_rows
 from framemoves.tables import Table
 from framemoves.walking import values_behind_set
@@ -150,3 +150,10 @@ class Standings:
             return None
         terms = self._made.table.told([number for _, number in rows])
         return with_rows(self._widths[standing[1]], [(row[0], term) for row, term in zip(rows, terms)])
+
+    def are_met(self, standing, known, values, recipe):
+        """Whether known values and those that a recipe makes of further values satisfy the needs of a standing."""
+        table = self._made.table
+        numbers = table.taken(known + values)
+        made = table.worked(recipe.plan, numbers[len(known):])
+        return hold(table, self.last[standing], numbers[:len(known)] + made)

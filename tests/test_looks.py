@@ -204,6 +204,14 @@ class SoundTest(unittest.TestCase):
                             ((0, 0, 0, 3, Recipe.keeping(3), "may"), False), ((1, 1, 0, 0, Recipe.keeping(3), "may"), True)]:
             self.assertIs(unchanged(self, is_sound, YARD, move), sound)
 
+    def test_recipes_of_which_great_terms_come(self):
+        # Of each of these recipes twice as great terms come as of the one ahead of it.
+        great = Recipe(3, [("g", 0, 0), ("g", 1, 1), ("g", 2, 2)])
+        for _ in range(6):
+            great = great * great
+        self.assertIs(is_sound(YARD, (0, 0, 1, 0, great, "may")), False)
+        self.assertIs(is_sound(YARD, (0, 3, 1, 3, great, "may")), True)
+
     def test_where_nothing_comes(self):
         lone = Code(PLAIN.world, 3, 2, PLAIN.statements() + [("end", "out", (0,))])
         yard = Yard(PLAIN, [lone, FAST], [])
