@@ -1,12 +1,14 @@
 import unittest
 
 from framemoves.alike import alike
+from framemoves.calm import calm
 from framemoves.errors import NoFunction, NoPlace, TooMany, Unfit
-from framemoves.moves import is_right
+from framemoves.moves import is_right, recipe_for
 from framemoves.putting import put_in
 from framemoves.recipes import Recipe
 from framemoves.unfolding import unfolded
 from framemoves.units import Unit
+from framemoves.yards import Yard
 from plain import WORLDS
 from plain_units import random_unit
 from support import outcome_of, seeded, unchanged
@@ -149,7 +151,11 @@ class SecondTest(unittest.TestCase):
                 self.assertEqual((recipe.variables, len(recipe)), (one.code.variables, other.code.variables))
                 told = outcome_of(is_right, one.code, at, other.code, to, recipe)
                 self.assertIn(told, (True, (TooMany, {"limit": 200})))
+                self.assertIn(outcome_of(recipe_for, one.code, at, other.code, to)[0], ("move", TooMany))
         self.assertIn(outcome_of(alike, before.code, after.code)[0], ("alike", TooMany))
+        # Each function's own values are moved there and back, so that the yard is calm, too.
+        moves = [(0, at, 1, to, recipe, "may") for at, to, recipe in there] + [(1, at, 0, to, recipe, "may") for at, to, recipe in back]
+        self.assertIn(outcome_of(calm, Yard(before.code, [before.code, after.code], moves, begins=(0, 1)))[0], ("calm", TooMany))
         for other in unit.functions():
             if other != name:
                 self.assertEqual(new.function(other), unit.function(other))
